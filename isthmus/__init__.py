@@ -1,0 +1,1 @@
+"""Isthmus: a dependent type theory whose types are finite groupoids."""

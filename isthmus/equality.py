@@ -1,0 +1,169 @@
+"""Whether types mean the same in a context, and whether they are flat there (points 11 and 12)."""
+
+from isthmus.actions import Still
+from isthmus.errors import TooLarge
+from isthmus.groupoids import Sum
+from isthmus.mappings import Maps, MapsAction
+from isthmus.nodes import alike
+from isthmus.pairings import Pairs, PairsAction
+from isthmus.scopes import scope_paths, scope_spots
+
+
+def equal_kinds(world, scope, first, second):
+    """Tell whether two types of a context are equal."""
+    if alike(first, second):
+        return True
+    key = (first, second)
+    if key not in scope.equal_pairs:
+        scope.equal_pairs[key] = agree_everywhere(world, scope, first, second)
+    return scope.equal_pairs[key]
+
+
+def agree_everywhere(world, scope, first, second):
+    """Tell whether two types are the same at each place, and act alike along each step."""
+    for spots in scope_spots(world, scope):
+        if not same_groupoid(world.groupoid(first, spots), world.groupoid(second, spots)):
+            return False
+    for path in scope_paths(world, scope):
+        if path.touches(first.free) or path.touches(second.free):
+            if not same_action(world.action(first, path), world.action(second, path)):
+                return False
+    return True
+
+
+def same_groupoid(first, second):
+    """Tell whether two groupoids have the same objects, arrows and composites."""
+    if first == second:
+        return True
+    if second not in first.agreed:
+        made = made_alike(first, second)
+        first.agreed[second] = made or (same_lists(first, second) and same_composites(first, second))
+    return first.agreed[second]
+
+
+def made_alike(first, second):
+    """Tell whether two groupoids are made in one way of the same groupoids.
+
+    This spares listing all pairs or maps, which may be many; if it does not hold, they may be the same nevertheless.
+    """
+    if isinstance(first, Pairs) and isinstance(second, Pairs):
+        return same_family(first.family, second.family)
+    if isinstance(first, Maps) and isinstance(second, Maps):
+        return same_family(first.family, second.family)
+    if isinstance(first, Sum) and isinstance(second, Sum):
+        return all([same_groupoid(one, two) for one, two in zip(first.sides, second.sides)])
+    return False
+
+
+def same_family(first, second):
+    """Tell whether two families are the same over the same base."""
+    if not same_groupoid(first.base, second.base):
+        return False
+    frame = first.base.frame()
+    for thing in frame.rows:
+        if not same_groupoid(first.over(thing), second.over(thing)):
+            return False
+    for source, target, arrow in frame.lines:
+        start = frame.rows[source]
+        end = frame.rows[target]
+        if not same_action(first.shift(start, end, arrow), second.shift(start, end, arrow)):
+            return False
+    return True
+
+
+def same_lists(first, second):
+    """Tell whether two groupoids have the same objects and the same arrows between them."""
+    if differ_by_one(first, second) or differ_by_one(second, first):
+        return False
+    things = first.objects_here()
+    if things != second.objects_here():
+        return False
+    return all([first.fan(thing) == second.fan(thing) for thing in things])
+
+
+def differ_by_one(first, second):
+    """Tell whether an object of the first is none of the second; False if the first has too many to list.
+
+    So a large groupoid and another one that clearly differs from it need not be listed both.
+    """
+    try:
+        things = first.objects_here()
+    except TooLarge:
+        return False
+    return not all([second.has(thing) for thing in things])
+
+
+def same_composites(first, second):
+    """Tell whether two groupoids with the same arrows have the same composites.
+
+    If they agree on what stands behind each arrow of a generating row, they agree on all.
+    """
+    if first.is_discrete():
+        return True
+    frame = first.frame()
+    into = [[] for _ in frame.rows]
+    for source, target, arrow in frame.lines:
+        into[target].append((frame.rows[source], arrow))
+    for source, target, arrow in frame.generators():
+        middle = frame.rows[source]
+        end = frame.rows[target]
+        for start, before in into[source]:
+            one = first.compose(start, middle, end, before, arrow)
+            if one != second.compose(start, middle, end, before, arrow):
+                return False
+    return True
+
+
+def same_action(first, second):
+    """Tell whether two actions make the same of everything; they go from one groupoid to one other."""
+    if first == second or (isinstance(first, Still) and isinstance(second, Still)):
+        return True
+    if second not in first.agreed:
+        first.agreed[second] = moved_alike(first, second) or same_images(first, second)
+    return first.agreed[second]
+
+
+def moved_alike(first, second):
+    """Tell whether two actions are made in one way of the same actions; it spares what made_alike spares."""
+    pairs = isinstance(first, PairsAction) and isinstance(second, PairsAction)
+    maps = isinstance(first, MapsAction) and isinstance(second, MapsAction)
+    if not pairs and not maps:
+        return False
+    if not same_action(first.sweep.base, second.sweep.base):
+        return False
+    things = first.sweep.base.source.objects_here()
+    return all([same_action(first.sweep.lift(thing), second.sweep.lift(thing)) for thing in things])
+
+
+def same_images(first, second):
+    """Tell whether two actions make the same of all objects and of a generating row of arrows."""
+    source = first.source
+    for thing in source.objects_here():
+        if first.image(thing) != second.image(thing):
+            return False
+    if source.is_discrete():
+        return True
+    frame = source.frame()
+    for start, end, arrow in frame.generators():
+        one = first.image_link(frame.rows[start], frame.rows[end], arrow)
+        if one != second.image_link(frame.rows[start], frame.rows[end], arrow):
+            return False
+    return True
+
+
+def surely_flat(kind):
+    """Tell whether the words of a type alone make it flat."""
+    if kind.word in ("set", "of", "ways", "classes"):
+        return True
+    if kind.word == "sizes":
+        return kind.parts[0] <= 1
+    if kind.word in ("pairs", "either"):
+        return surely_flat(kind.parts[-2]) and surely_flat(kind.parts[-1])
+    return surely_flat(kind.parts[-1])
+
+
+def flat_kind(world, scope, kind):
+    """Tell whether a type is flat in a context."""
+    if surely_flat(kind):
+        return True
+    return all([world.groupoid(kind, spots).is_discrete() for spots in scope_spots(world, scope)])

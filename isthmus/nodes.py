@@ -1,0 +1,110 @@
+"""Types and terms as nodes: equal ones are one node, so that what is found out about it is kept with it."""
+
+from isthmus.forms import BINDERS, is_written, part_codes
+
+
+class Node:
+    """A type or term: its word, its parts (integers, names, nodes, tuples of nodes) and its free names."""
+
+    def __init__(self, word, parts, free):
+        self.word = word
+        self.parts = parts
+        self.free = free
+        self.found_groupoids = {}
+        self.found_actions = {}
+        self.found_objects = {}
+        self.found_arrows = {}
+
+
+class Store:
+    """All nodes of one run."""
+
+    def __init__(self):
+        self.nodes = {}
+
+    def node(self, word, parts):
+        """Return the one node with this word and these parts."""
+        key = (word, parts)
+        if key not in self.nodes:
+            self.nodes[key] = Node(word, parts, free_names(word, parts))
+        return self.nodes[key]
+
+    def read(self, data):
+        """Return the node of a written type or term."""
+        parts = []
+        for code, part in zip(part_codes(data[0]), data[1:]):
+            if is_written(code):
+                parts.append(self.read(part))
+            elif code == "T*":
+                parts.append(tuple([self.read(branch) for branch in part]))
+            else:
+                parts.append(part)
+        return self.node(data[0], tuple(parts))
+
+
+def bound_names(word, parts):
+    """Return a dict from the codes of the binders to the names that are bound."""
+    return {code: part for code, part in zip(part_codes(word), parts) if code in BINDERS}
+
+
+def free_names(word, parts):
+    """Return the ascending tuple of the names of the context that a type or term mentions."""
+    found = {}
+    bound = bound_names(word, parts)
+    for code, part in zip(part_codes(word), parts):
+        if code == "use":
+            found[part] = True
+        elif code == "T*":
+            found.update({name: True for branch in part for name in branch.free})
+        elif is_written(code):
+            hidden = bound.get(code[1:])
+            found.update({name: True for name in part.free if name != hidden})
+    return tuple(sorted(found))
+
+
+def bare(node):
+    """Return the node without each "at" in front of it whose name is not mentioned behind it."""
+    while node.word == "at" and node.parts[0] not in node.parts[3].free:
+        node = node.parts[3]
+    return node
+
+
+def alike(first, second, bound=()):
+    """Tell whether two nodes differ in the names that they bind alone; bound are the pairs of such names.
+
+    It also passes over each "at" that changes nothing. Alike types and terms mean the same.
+    """
+    first = bare(first)
+    second = bare(second)
+    if first == second and all([are_one(name, name, bound) for name in first.free]):
+        return True
+    if first.word != second.word:
+        return False
+    left = bound_names(first.word, first.parts)
+    right = bound_names(second.word, second.parts)
+    for code, one, two in zip(part_codes(first.word), first.parts, second.parts):
+        more = bound
+        if code[1:] in left:
+            more = bound + ((left[code[1:]], right[code[1:]]),)
+        if not parts_alike(code, one, two, more):
+            return False
+    return True
+
+
+def parts_alike(code, one, two, bound):
+    """Tell whether two parts with one code are alike."""
+    if is_written(code):
+        return alike(one, two, bound)
+    if code == "T*":
+        return len(one) == len(two) and all([alike(a, b, bound) for a, b in zip(one, two)])
+    if code == "use":
+        return are_one(one, two, bound)
+    return code in BINDERS or one == two
+
+
+def are_one(one, two, bound):
+    """Tell whether two names mean one thing: the pair that was bound last decides."""
+    for left, right in reversed(bound):
+        if left == one or right == two:
+            return left == one and right == two
+    return one == two
