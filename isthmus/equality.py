@@ -73,24 +73,24 @@ def same_family(first, second):
 
 def same_lists(first, second):
     """Tell whether two groupoids have the same objects and the same arrows between them."""
-    if differ_by_one(first, second) or differ_by_one(second, first):
-        return False
-    things = first.objects_here()
-    if things != second.objects_here():
+    try:
+        things = first.objects_here()
+        others = second.objects_here()
+    except TooLarge:
+        if samples_outside(first, second) or samples_outside(second, first):
+            return False
+        raise
+    if things != others:
         return False
     return all([first.fan(thing) == second.fan(thing) for thing in things])
 
 
-def differ_by_one(first, second):
-    """Tell whether an object of the first is none of the second; False if the first has too many to list.
+def samples_outside(first, second):
+    """Tell whether an object of the first groupoid, taken as a sample, is none of the second one.
 
-    So a large groupoid and another one that clearly differs from it need not be listed both.
+    So groupoids that are too large to be listed are told apart where one object shows a difference.
     """
-    try:
-        things = first.objects_here()
-    except TooLarge:
-        return False
-    return not all([second.has(thing) for thing in things])
+    return not all([second.has(thing) for thing in first.samples()])
 
 
 def same_composites(first, second):
@@ -129,10 +129,17 @@ def moved_alike(first, second):
     maps = isinstance(first, MapsAction) and isinstance(second, MapsAction)
     if not pairs and not maps:
         return False
-    if not same_action(first.sweep.base, second.sweep.base):
+    if not same_part(first.sweep.base, second.sweep.base):
         return False
     things = first.sweep.base.source.objects_here()
-    return all([same_action(first.sweep.lift(thing), second.sweep.lift(thing)) for thing in things])
+    return all([same_part(first.sweep.lift(thing), second.sweep.lift(thing)) for thing in things])
+
+
+def same_part(first, second):
+    """Tell whether two actions go from one groupoid to one other, and make the same of everything there."""
+    if not same_groupoid(first.source, second.source) or not same_groupoid(first.target, second.target):
+        return False
+    return same_action(first, second)
 
 
 def same_images(first, second):

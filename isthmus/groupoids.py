@@ -25,6 +25,10 @@ class Groupoid:
             self.shape = Frame(self)
         return self.shape
 
+    def samples(self):
+        """Return some of the objects, unlike each other; where all are too many to list, these may be not."""
+        return self.objects_here()
+
     def links(self, start, end):
         """Return the ascending list of the arrows between two objects."""
         return [arrow for target, arrow in self.fan(start) if target == end]
@@ -188,6 +192,13 @@ class Sum(Groupoid):
         for side in (0, 1):
             rows.extend([(side, thing) for thing in self.sides[side].objects_here()])
         return self.limited(rows)
+
+    def samples(self):
+        """Return some of the objects."""
+        rows = []
+        for side in (0, 1):
+            rows.extend([(side, thing) for thing in self.sides[side].samples()])
+        return rows
 
     def has(self, thing):
         """Tell whether it is an object."""

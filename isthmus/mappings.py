@@ -4,7 +4,7 @@ from isthmus.actions import Action
 from isthmus.errors import TooLarge
 from isthmus.groupoids import Groupoid
 from isthmus.paths import key_of
-from isthmus.sections import choices, is_section, list_sections, product_of
+from isthmus.sections import choices, is_section, list_sections, product_of, sample_sections
 
 
 class Maps(Groupoid):
@@ -23,11 +23,6 @@ class Maps(Groupoid):
                        for source, target, arrow in frame.lines]
         self.rows = None
         self.fans = {}
-
-    def check_extent(self, extent):
-        """Raise TooLarge if there are too many objects and arrows."""
-        if extent > self.most:
-            raise TooLarge("too many maps")
 
     def trunk_shift(self, block, at):
         """Return the action along the trunk to an object of the block."""
@@ -58,6 +53,10 @@ class Maps(Groupoid):
         if self.rows is None:
             self.rows = list_sections(self)
         return self.rows
+
+    def samples(self):
+        """Return some of the objects."""
+        return sample_sections(self)
 
     def has(self, thing):
         """Tell whether it is an object."""

@@ -25,6 +25,13 @@ class Pairs(Groupoid):
             self.rows = rows
         return self.rows
 
+    def samples(self):
+        """Return some of the objects."""
+        rows = []
+        for thing in self.base.objects_here():
+            rows.extend([(thing, other) for other in self.family.over(thing).samples()])
+        return rows
+
     def has(self, thing):
         """Tell whether it is an object."""
         if not isinstance(thing, tuple) or len(thing) != 2 or not self.base.has(thing[0]):

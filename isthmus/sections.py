@@ -5,6 +5,7 @@ other object of the block the arrow along the trunk. The rule for composites mus
 the arrows along all others follow.
 """
 
+from isthmus.errors import TooLarge
 from isthmus.paths import key_of
 
 
@@ -84,17 +85,6 @@ class BlockChoice:
         if self.loops:
             self.tips = [trunk_fan(maps, block, at, thing) for at in block.members]
         self.many = len(self.loops) * product_of([len(tips) for tips in self.tips])
-        self.weight = 0
-        if self.loops:
-            self.weight = self.many * trunk_weight(maps, block, thing)
-
-
-def trunk_weight(maps, block, thing):
-    """Return the number of arrows of the type of maps, on this block, from a functor with this root."""
-    total = 1
-    for at in block.members:
-        total = total * maps.fibres[at].degree(maps.trunk_shift(block, at).image(thing))
-    return total
 
 
 def trunk_fan(maps, block, at, thing):
@@ -105,7 +95,7 @@ def trunk_fan(maps, block, at, thing):
 
 
 def block_choices(maps, block):
-    """Return the choices for a block; not all of them, if they are more than most."""
+    """Return the choices for a block that there are; not all of them, if they are more than most functors."""
     found = []
     total = 0
     for thing in maps.fibres[block.root].objects_here():
@@ -122,13 +112,38 @@ def list_sections(maps):
     """Return the ascending list of the functors."""
     blocks = maps.frame_below.blocks()
     found = [block_choices(maps, block) for block in blocks]
-    many = [sum([choice.many for choice in row]) for row in found]
-    if 0 in many:
+    many = product_of([sum([choice.many for choice in row]) for row in found])
+    if many > maps.most:
+        raise TooLarge("too many maps")
+    if many == 0:
         return []
-    weight = product_of([sum([choice.weight for choice in row]) for row in found])
-    maps.check_extent(product_of(many) + weight)
     pieces = [block_sections(maps, block, row) for block, row in zip(blocks, found)]
     return sorted([maps.joined(chosen) for chosen in choices(pieces)])
+
+
+def sample_sections(maps):
+    """Return functors that differ from a first one in one piece each."""
+    rows = [block_samples(maps, block) for block in maps.frame_below.blocks()]
+    if [] in rows:
+        return []
+    ahead = [row[0] for row in rows]
+    found = [maps.joined(ahead)]
+    for at, row in enumerate(rows):
+        found.extend([maps.joined(ahead[:at] + [piece] + ahead[at + 1:]) for piece in row[1:]])
+    return found
+
+
+def block_samples(maps, block):
+    """Return functors on one block that differ in their loops or in one tip of the trunk from a first one."""
+    found = []
+    for choice in block_choices(maps, block):
+        tips = [row[0] for row in choice.tips]
+        found.extend([complete(maps, block, choice.thing, loops, tips) for loops in choice.loops])
+        for at, row in enumerate(choice.tips):
+            for tip in row[1:]:
+                others = tips[:at] + [tip] + tips[at + 1:]
+                found.append(complete(maps, block, choice.thing, choice.loops[0], others))
+    return found
 
 
 def block_sections(maps, block, row):

@@ -18,15 +18,13 @@ def groupoid_of(context, kind, place):
     return entry.world.groupoid(node, entry.read_place(place))
 
 
-def action_of(context, kind, start, end, step, things):
-    """Check all these, objects at the start ahead of the step; return the action of the type along the step."""
+def action_of(context, kind, start, end, step, things, many):
+    """Check all these, so many objects at the start ahead of the step; return the action of the type along it."""
     entry = Entry(context, MOST)
     node = entry.read_kind(kind)
     first = entry.read_place(start)
     second = entry.read_place(end)
-    groupoid = entry.world.groupoid(node, first)
-    for thing in things:
-        check_thing(groupoid, thing)
+    check_ends(entry.world.groupoid(node, first), things, many)
     return entry.world.action(node, entry.read_step(first, second, step))
 
 
@@ -77,14 +75,12 @@ def identity(context, kind, place, thing):
 
 def act(context, kind, start, end, step, thing):
     """Return the object that the action of a step makes of an object."""
-    return action_of(context, kind, start, end, step, (thing,)).image(thing)
+    return action_of(context, kind, start, end, step, (thing,), 1).image(thing)
 
 
 def act_arrow(context, kind, start, end, step, ends, arrow):
     """Return the arrow that the action of a step makes of an arrow between the two ends."""
-    if not isinstance(ends, tuple) or len(ends) != 2:
-        raise BadPlace("an arrow has two ends")
-    action = action_of(context, kind, start, end, step, ends)
+    action = action_of(context, kind, start, end, step, ends, 2)
     check_arrow(action.source, ends[0], ends[1], arrow)
     return action.image_link(ends[0], ends[1], arrow)
 

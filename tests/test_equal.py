@@ -118,6 +118,16 @@ class EqualTest(unittest.TestCase):
         self.equal(context, ("ways", Z(2), N("n"), N("n")), ("ways", Z(2), N("n"), ("code", 2, of(2, N("n")))))
         self.equal(context, ("at", "m", Z(2), N("n"), ("classes", of(2, N("m")))), of(2, N("n")))
 
+    def test_nothing_made_of_different_things(self):
+        context = (("n", Z(2)),)
+        two = ("maps", "q", of(2, N("n")), Z(1))
+        # At each place there is nothing; what it would consist of has other objects and other steps.
+        self.equal(context, ("pairs", "k", of(2, N("n")), S(0)), ("pairs", "k", two, S(0)))
+        self.equal(context, ("pairs", "k", two, S(0)), ("pairs", "k", ("pairs", "r", Z(2), of(2, N("n"))), S(0)))
+        maps = ("maps", "k", S(1), ("pairs", "r", of(2, N("n")), S(0)))
+        self.equal(context, maps, ("maps", "k", S(1), ("pairs", "r", two, S(0))))
+        self.equal(context, maps, ("maps", "k", ("maps", "r", two, Z(1)), S(0)))
+
     def test_context_without_places(self):
         self.equal(NONE, S(1), S(2))
         self.equal(NONE, Z(4), of(2, N("n")))
