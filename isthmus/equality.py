@@ -3,15 +3,15 @@
 from isthmus.actions import Still
 from isthmus.errors import TooLarge
 from isthmus.groupoids import Sum
+from isthmus.likeness import alike
 from isthmus.mappings import Maps, MapsAction
-from isthmus.nodes import alike
 from isthmus.pairings import Pairs, PairsAction
 from isthmus.scopes import scope_paths, scope_spots
 
 
 def equal_kinds(world, scope, first, second):
     """Tell whether two types of a context are equal."""
-    if alike(first, second):
+    if alike(first, second, {}, {}, 0):
         return True
     key = (first, second)
     if key not in scope.equal_pairs:

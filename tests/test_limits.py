@@ -12,6 +12,7 @@ MARKS = ("pairs", "n", Z(4), ("maps", "v", of(4, N("n")), S(2)))
 SIXTEEN = ("pairs", "r", S(4), S(4))
 MANY = ("either", ("pairs", "q", SIXTEEN, SIXTEEN), S(4))
 REST = ("either", SIXTEEN, ("either", S(4), S(3)))
+TWICE = ("pairs", "k", Z(4), Z(4))
 TWO_SIZES = (("x", Z(4)), ("y", Z(3)))
 
 
@@ -123,18 +124,55 @@ class NothingLargeTest(unittest.TestCase):
 class LargeTest(unittest.TestCase):
     """The program may refuse these; it does so soon."""
 
-    def test_maps(self):
+    def test_objects(self):
         for kind in (("maps", "k", Z(3), Z(3)), ("maps", "k", Z(4), ("maps", "q", Z(4), Z(4))),
-                     ("maps", "k", MANY, S(2)), ("maps", "k", MARKS, MARKS), ("maps", "k", MARKS, S(2))):
+                     ("maps", "k", MANY, S(2)), ("maps", "k", MARKS, MARKS), ("maps", "k", MARKS, S(2)),
+                     ("pairs", "k", SIXTEEN, ("pairs", "q", SIXTEEN, SIXTEEN)), ("either", MANY, ("either", MANY, MANY)),
+                     ("maps", "k", TWICE, S(1)), ("classes", TWICE)):
             self.assertRaises(TooLarge, objects, EMPTY, kind, ())
+
+    def test_arrows(self):
+        pair = (4, 4)
+        self.assertRaises(TooLarge, arrows, EMPTY, TWICE, (), pair, pair)
+        rest = ((0, 1, 2, 3), (0, 1, 2, 3))
+        self.assertEqual(identity(EMPTY, TWICE, (), pair), rest)
+        self.assertRaises(TooLarge, arrows, EMPTY, ("maps", "k", S(2), Z(4)), (), (pair, rest), (pair, rest))
+        self.assertRaises(TooLarge, objects, EMPTY, ("classes", ("maps", "k", S(2), Z(4))), ())
 
     def test_contexts(self):
         self.assertRaises(TooLarge, places, tuple((name, S(4)) for name in ("a", "b", "c", "d", "e")))
         self.assertRaises(TooLarge, places, (("f", ("maps", "k", Z(3), Z(3))),))
+        context = (("x", Z(4)), ("y", Z(4)))
+        self.assertEqual(len(places(context)), 25)
+        self.assertRaises(TooLarge, steps, context, (4, 4), (4, 4))
+        self.assertRaises(TooLarge, equal_types, context, of(4, N("x")), ("at", "z", Z(4), N("x"), of(4, N("z"))))
+        self.assertEqual(len(steps(context, (3, 4), (3, 4))), 144)
 
     def test_a_difference_that_one_object_shows(self):
-        self.assertFalse(equal_types(EMPTY, ("maps", "k", Z(3), Z(3)), S(1)))
-        self.assertFalse(equal_types(EMPTY, S(1), ("maps", "k", Z(3), Z(3))))
+        large = ("maps", "k", Z(3), Z(3))
+        other = ("maps", "k", Z(3), Z(2))
+        for first, second in ((large, S(1)), (large, other), (("either", S(1), large), ("either", S(1), other)),
+                              (("pairs", "r", S(2), large), ("pairs", "r", S(2), other)),
+                              (("maps", "q", MANY, S(3)), ("maps", "q", MANY, S(2))),
+                              (("maps", "q", MARKS, Z(3)), ("maps", "q", MARKS, Z(2)))):
+            self.assertFalse(equal_types(EMPTY, first, second))
+            self.assertFalse(equal_types(EMPTY, second, first))
+
+    def test_equal_ones_are_not_told_apart(self):
+        # What is over the size 2 on the right is exchanged by an arrow, so no map goes there.
+        two = ("pairs", "k", Z(2), ("ways", S(2), ("any", ("ways", Z(2), N("k"), Q(2, 2))), P(2, 1)))
+        size = ("split", "z", two, SIXTEEN, Z(2), "u", ("first",) + two[1:] + (N("u"),), "w", Q(2, 0), N("s"))
+
+        def maps(right):
+            return ("maps", "s", ("either", two, SIXTEEN), ("either", S(2), right))
+
+        first, second = maps(of(2, size)), maps(("pairs", "t", of(2, size), S(1)))
+        for pair in ((first, second), (second, first)):
+            try:
+                self.assertTrue(equal_types(EMPTY, *pair))
+            except TooLarge:
+                pass
+        self.assertTrue(equal_types(EMPTY, first, maps(("at", "m", Z(2), Q(2, 2), of(2, size)))))
 
 
 if __name__ == "__main__":
