@@ -7,7 +7,7 @@ import unittest
 
 import plain
 from compare import compare_context, compare_type
-from isthmus.types import arrows, compose, equal_types, identity, inverse, is_flat, objects
+from isthmus.types import act, arrows, compose, equal_types, identity, inverse, is_flat, objects
 from short import EMPTY, N, P, Q, S, SIZE, Z, of
 
 POINTED = ("pairs", "k", Z(2), of(2, N("k")))
@@ -27,6 +27,80 @@ def head(kind, x):
 BOTH = ("pairs", "b", TWO, of(2, head(TWO, "b")))
 AB = (("a", POINTED), ("b", POINTED))
 ABW = AB + (("w", ("ways", POINTED, N("a"), N("b"))),)
+
+
+def listed(x):
+    """A size over a name of POINTED: its point twice, the other one once.
+
+    Where the two points are exchanged, the first of three goes second or last: there and back are unlike each other.
+    """
+    points = of(2, head(POINTED, x))
+    marked = ("second",) + POINTED[1:] + (N(x),)
+    doubled = ("maps", "w", ("ways", points, marked, N("u")), S(2))
+    return ("code", 3, ("pairs", "u", points, doubled))
+
+
+def spread(x, kind=TWO):
+    """The maps from the points of this size."""
+    return ("maps", "v", of(3, listed(x)), kind)
+
+
+SPREAD = ("pairs", "c", POINTED, spread("c"))
+
+
+class OneWayTest(unittest.TestCase):
+    """What goes along an arrow from one object to another one here does not go so along the arrow back."""
+
+    def compare(self, *samples):
+        for context, kind in samples:
+            with self.subTest(context=context, kind=kind):
+                compare_type(self, context, kind, 14)
+
+    def test_the_two_ways(self):
+        kind = of(3, listed("a"))
+        context = (("a", POINTED),)
+        swap = (((1, 0), ()),)
+        self.assertEqual([act(context, kind, ((2, 0),), ((2, 1),), swap, k) for k in range(3)], [1, 2, 0])
+        self.assertEqual([act(context, kind, ((2, 1),), ((2, 0),), swap, k) for k in range(3)], [2, 0, 1])
+
+    def test_pairs(self):
+        self.compare((EMPTY, SPREAD), (EMPTY, ("pairs", "d", SPREAD, S(1))), (EMPTY, ("either", SPREAD, S(1))),
+                     (EMPTY, ("pairs", "c", POINTED, of(3, listed("c")))),
+                     (EMPTY, ("pairs", "c", POINTED, ("pairs", "d", of(3, listed("c")), TWO))),
+                     (EMPTY, ("pairs", "c", POINTED, ("ways", Z(3), listed("c"), listed("c")))),
+                     (EMPTY, ("pairs", "d", BOTH, ("maps", "r", S(1), SPREAD))))
+
+    def test_maps(self):
+        self.compare((EMPTY, ("maps", "d", S(1), SPREAD)), (EMPTY, ("maps", "d", TWO, SPREAD)),
+                     (EMPTY, ("maps", "c", POINTED, of(3, listed("c")))),
+                     (EMPTY, ("maps", "c", POINTED, ("pairs", "d", of(3, listed("c")), TWO))),
+                     (EMPTY, ("maps", "c", POINTED, ("ways", Z(3), listed("c"), listed("c")))))
+
+    def test_in_contexts(self):
+        one = (("a", POINTED),)
+        two = (("a", SPREAD),)
+        self.compare((one, spread("a")), (one, ("pairs", "d", of(3, listed("a")), TWO)), (one, ("either", S(1), spread("a"))),
+                     (one, ("maps", "d", S(1), spread("a"))), (one, ("pairs", "d", S(1), spread("a"))),
+                     (one, ("ways", Z(3), listed("a"), Q(3, 3))), (one, ("ways", Z(3), listed("a"), listed("a"))),
+                     (one, ("maps", "d", spread("a"), S(1))), (one, ("classes", ("pairs", "d", of(3, listed("a")), TWO))),
+                     (two, ("ways", SPREAD, N("a"), N("a"))),
+                     (two, ("pairs", "d", S(1), ("ways", SPREAD, N("a"), N("a")))))
+
+    def test_contexts(self):
+        for context in ((("c", POINTED), ("m", spread("c"))), (("c", POINTED), ("p", of(3, listed("c"))), ("q", TWO)),
+                        (("s", SPREAD),), (("e", ("either", SPREAD, S(1))),), (("d", ("maps", "r", S(1), SPREAD)),)):
+            with self.subTest(context=context):
+                compare_context(self, context)
+
+    def test_terms(self):
+        kind = ("ways", SPREAD, N("a"), N("a"))
+        context = (("a", SPREAD), ("way", kind))
+        back = ("back", SPREAD, N("a"), N("a"), N("way"))
+        thrice = ("join", SPREAD, N("a"), N("a"), N("a"), ("join", SPREAD, N("a"), N("a"), N("a"), N("way"), N("way")), back)
+        for place in plain.places(context)[::5]:
+            for term in (back, thrice):
+                same = plain.val(context, term, place) == place[1]
+                self.assertEqual(objects(context, ("ways", kind, term, N("way")), place), [()] if same else [])
 
 
 class DeepContextsTest(unittest.TestCase):

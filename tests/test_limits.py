@@ -145,7 +145,8 @@ class LargeTest(unittest.TestCase):
         context = (("x", Z(4)), ("y", Z(4)))
         self.assertEqual(len(places(context)), 25)
         self.assertRaises(TooLarge, steps, context, (4, 4), (4, 4))
-        self.assertRaises(TooLarge, equal_types, context, of(4, N("x")), ("at", "z", Z(4), N("x"), of(4, N("z"))))
+        self.assertRaises(TooLarge, equal_types, context, of(4, N("x")), of(4, ("code", 4, of(4, N("x")))))
+        self.assertTrue(equal_types(context, of(4, N("x")), ("at", "z", Z(4), N("x"), of(4, N("z")))))
         self.assertEqual(len(steps(context, (3, 4), (3, 4))), 144)
 
     def test_a_difference_that_one_object_shows(self):
