@@ -96,7 +96,8 @@ def samples_outside(first, second):
 def same_composites(first, second):
     """Tell whether two groupoids with the same arrows have the same composites.
 
-    If they agree on what stands behind each arrow of a generating row, they agree on all.
+    If they agree on all composites with the arrows of a generating row behind, they agree on those with inverses of
+    these behind, and so on all.
     """
     if first.is_discrete():
         return True

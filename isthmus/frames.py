@@ -36,15 +36,12 @@ class Frame:
         return self.found_blocks
 
     def generators(self):
-        """Return lines of which all arrows are composites."""
+        """Return lines of which, with their inverses, all arrows are composites."""
         found = []
         for block in self.blocks():
-            root = self.rows[block.root]
             for at in block.members:
                 if at != block.root:
-                    arrow = block.trunk[at]
-                    found.append((block.root, at, arrow))
-                    found.append((at, block.root, self.listed.inverse(root, self.rows[at], arrow)))
+                    found.append((block.root, at, block.trunk[at]))
             for turn, _ in block.levels():
                 found.append((block.root, block.root, block.loops[turn]))
         return found

@@ -29,23 +29,29 @@ AB = (("a", POINTED), ("b", POINTED))
 ABW = AB + (("w", ("ways", POINTED, N("a"), N("b"))),)
 
 
-def listed(x):
-    """A size over a name of POINTED: its point twice, the other one once.
+def listed(x, kind=S(2)):
+    """A size over a name of POINTED: its point as often as the type has objects, the other one once.
 
     Where the two points are exchanged, the first of three goes second or last: there and back are unlike each other.
+    If a step exchanges the objects of the type, it does so to the first two of three, or to the last two.
     """
     points = of(2, head(POINTED, x))
     marked = ("second",) + POINTED[1:] + (N(x),)
-    doubled = ("maps", "w", ("ways", points, marked, N("u")), S(2))
+    doubled = ("maps", "w", ("ways", points, marked, N("u")), kind)
     return ("code", 3, ("pairs", "u", points, doubled))
 
 
-def spread(x, kind=TWO):
-    """The maps from the points of this size."""
-    return ("maps", "v", of(3, listed(x)), kind)
+def spread(x, kind=S(2)):
+    """The maps from the points of this size to the type that has two arrows alone."""
+    return ("maps", "v", of(3, listed(x, kind)), TWO)
 
 
 SPREAD = ("pairs", "c", POINTED, spread("c"))
+
+
+def mixed(size):
+    """The same where a size that steps can move tells how often the points stand."""
+    return ("pairs", "c", POINTED, spread("c", of(2, size)))
 
 
 class OneWayTest(unittest.TestCase):
@@ -85,6 +91,77 @@ class OneWayTest(unittest.TestCase):
                      (one, ("maps", "d", spread("a"), S(1))), (one, ("classes", ("pairs", "d", of(3, listed("a")), TWO))),
                      (two, ("ways", SPREAD, N("a"), N("a"))),
                      (two, ("pairs", "d", S(1), ("ways", SPREAD, N("a"), N("a")))))
+
+    def test_mixed(self):
+        one = (("n", Z(2)), ("t", ("ways", Z(2), N("n"), Q(2, 2))))
+        two = (("b", TWO),)
+        pairs = mixed(head(TWO, "b"))
+        self.compare((one, mixed(N("n"))), (one, ("either", S(1), mixed(N("n")))), (one, ("pairs", "d", S(1), mixed(N("n")))),
+                     (one, ("maps", "d", S(1), mixed(N("n")))), (one, ("maps", "d", mixed(N("n")), S(1))),
+                     (EMPTY, ("pairs", "b", TWO, pairs)), (EMPTY, ("maps", "b", TWO, pairs)),
+                     (two, pairs), (two, ("classes", pairs)), (EMPTY, ("pairs", "b", TWO, ("either", S(1), pairs))))
+
+    def test_mixed_contexts(self):
+        for context in ((("b", TWO), ("d", mixed(head(TWO, "b")))), (("b", ("pairs", "b", TWO, mixed(head(TWO, "b")))),)):
+            with self.subTest(context=context):
+                compare_context(self, context)
+
+    def test_three_points(self):
+        three = ("pairs", "k", Z(3), of(3, N("k")))
+        self.assertEqual(arrows(EMPTY, three, (), (3, 0), (3, 1)), [((1, 0, 2), ()), ((1, 2, 0), ())])
+        told = [("pair", "k", Z(3), of(3, N("k")), Q(3, 3), P(3, point)) for point in (0, 1)]
+        loose = ("pairs", "j", Z(3), ("ways", Z(3), N("j"), head(THREE, "b")))
+        self.compare((EMPTY, ("ways", three, told[0], told[1])), (EMPTY, ("pairs", "d", S(1), three)),
+                     (EMPTY, ("either", S(1), three)), (EMPTY, ("maps", "b", THREE, loose)), (EMPTY, ("maps", "d", S(1), three)))
+
+    def test_maps_on_mixed_ones(self):
+        # Too many candidates to be read slowly: what a step makes of each map is a map, and back again it is the same.
+        context = (("n", Z(2)),)
+        kind = ("maps", "d", mixed(N("n")), TWO)
+        found = objects(context, kind, (2,))
+        self.assertEqual(len(found), 64)
+        moved = [act(context, kind, (2,), (2,), ((1, 0),), thing) for thing in found]
+        self.assertEqual(sorted(moved), found)
+        self.assertNotEqual(moved, found)
+        self.assertEqual([act(context, kind, (2,), (2,), ((1, 0),), thing) for thing in moved], found)
+
+    def test_maps_with_arrows_of_their_own(self):
+        maps = ("maps", "b", TWO, mixed(head(TWO, "b")))
+        self.compare((EMPTY, ("classes", maps)), (EMPTY, ("maps", "e", maps, S(1))))
+
+    def test_ways_that_go_along(self):
+        context = (("b", TWO),)
+        pairs = mixed(head(TWO, "b"))
+        kind = ("pairs", "i", pairs, ("pairs", "j", pairs, ("ways", pairs, N("i"), N("j"))))
+        place = plain.places(context)[0]
+        for g, h, s in plain.all_steps(context):
+            for thing in plain.objs(context, kind, place):
+                self.assertEqual(act(context, kind, g, h, s, thing), plain.act(context, kind, g, h, s, thing))
+
+    def test_led(self):
+        led = ("led", "x", POINTED, Z(3), listed("x"), N("a"), N("b"), N("way"))
+        context = AB + (("way", ABW[2][1]),)
+        ends = [("given", "x", POINTED, N(name), listed("x")) for name in ("a", "b")]
+        kind = ("ways", Z(3), ends[0], ends[1])
+        place = ((2, 0), (2, 1), ((1, 0), ()))
+        self.assertEqual(objects(context, ("pairs", "s", kind, ("ways", kind, N("s"), led)), place), [((1, 2, 0), ())])
+        place = ((2, 1), (2, 0), ((1, 0), ()))
+        self.assertEqual(objects(context, ("pairs", "s", kind, ("ways", kind, N("s"), led)), place), [((2, 0, 1), ())])
+
+    def test_fun(self):
+        maps = ("maps", "x", POINTED, Z(3))
+        function = ("fun", "x", POINTED, Z(3), listed("x"))
+        ahead, rest = (0, 1), (0, 1, 2)
+        right = ((2, 3, 3), (ahead, rest, (1, 2, 0), (2, 0, 1), rest))
+        wrong = ((2, 3, 3), (ahead, rest, (2, 0, 1), (1, 2, 0), rest))
+        kind = ("ways", maps, N("f"), function)
+        self.assertIn((ahead, rest, rest), objects((("f", maps),), kind, (right,)))
+        self.assertNotIn((ahead, rest, rest), objects((("f", maps),), kind, (wrong,)))
+
+    def test_split(self):
+        context = (("e", ("either", POINTED, Z(2))),)
+        term = ("split", "z", POINTED, Z(2), Z(3), "x", listed("x"), "y", ("code", 3, of(2, N("y"))), N("e"))
+        self.compare((context, of(3, term)))
 
     def test_contexts(self):
         for context in ((("c", POINTED), ("m", spread("c"))), (("c", POINTED), ("p", of(3, listed("c"))), ("q", TWO)),
