@@ -3,7 +3,7 @@
 from isthmus.actions import Still
 from isthmus.errors import TooLarge
 from isthmus.groupoids import Sum
-from isthmus.likeness import alike
+from isthmus.likeness import surely_same
 from isthmus.mappings import Maps, MapsAction
 from isthmus.pairings import Pairs, PairsAction
 from isthmus.scopes import scope_paths, scope_spots
@@ -11,16 +11,17 @@ from isthmus.scopes import scope_paths, scope_spots
 
 def equal_kinds(world, scope, first, second):
     """Tell whether two types of a context are equal."""
-    if alike(first, second, {}, {}, 0):
-        return True
     key = (first, second)
     if key not in scope.equal_pairs:
-        scope.equal_pairs[key] = agree_everywhere(world, scope, first, second)
+        scope.equal_pairs[key] = surely_same(first, second) or agree_everywhere(world, scope, first, second)
     return scope.equal_pairs[key]
 
 
 def agree_everywhere(world, scope, first, second):
-    """Tell whether two types are the same at each place, and act alike along each step."""
+    """Tell whether two types are the same at each place, and act alike along each step.
+
+    If they act alike along the steps of a generating row, they do so along the inverses and composites of these.
+    """
     for spots in scope_spots(world, scope):
         if not same_groupoid(world.groupoid(first, spots), world.groupoid(second, spots)):
             return False
@@ -56,14 +57,14 @@ def made_alike(first, second):
 
 
 def same_family(first, second):
-    """Tell whether two families are the same over the same base."""
+    """Tell whether two families are the same over the same base; generating arrows show it for all."""
     if not same_groupoid(first.base, second.base):
         return False
     frame = first.base.frame()
     for thing in frame.rows:
         if not same_groupoid(first.over(thing), second.over(thing)):
             return False
-    for source, target, arrow in frame.lines:
+    for source, target, arrow in frame.generators():
         start = frame.rows[source]
         end = frame.rows[target]
         if not same_action(first.shift(start, end, arrow), second.shift(start, end, arrow)):
@@ -174,4 +175,7 @@ def flat_kind(world, scope, kind):
     """Tell whether a type is flat in a context."""
     if surely_flat(kind):
         return True
-    return all([world.groupoid(kind, spots).is_discrete() for spots in scope_spots(world, scope)])
+    for spots in scope_spots(world, scope):
+        if not world.groupoid(kind, spots).is_discrete():
+            return False
+    return True

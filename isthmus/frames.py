@@ -58,6 +58,7 @@ class Block:
         self.loops = loops
         self.turns = {key_of(loop): at for at, loop in enumerate(loops)}
         self.found_levels = None
+        self.found_cycles = {}
         self.found_twists = None
 
     def rest_turn(self):
@@ -73,6 +74,13 @@ class Block:
         if self.found_levels is None:
             self.found_levels = find_levels(self)
         return self.found_levels
+
+    def cycle(self, turn):
+        """Return the triples (g, w, v) of one loop g alone, where w is any loop that it makes up."""
+        if turn not in self.found_cycles:
+            rest = self.rest_turn()
+            self.found_cycles[turn] = spread(self, {rest: True}, [rest], [turn])
+        return self.found_cycles[turn]
 
     def product(self, first, second):
         """Return the position of the composite of two loops, first and then second."""

@@ -4,6 +4,7 @@ from itertools import permutations
 
 from isthmus.errors import TooLarge
 from isthmus.frames import Frame
+from isthmus.paths import key_of
 
 
 class Groupoid:
@@ -17,6 +18,7 @@ class Groupoid:
     def __init__(self, most):
         self.most = most
         self.shape = None
+        self.leasts = {}
         self.agreed = {}
 
     def frame(self):
@@ -39,11 +41,23 @@ class Groupoid:
 
     def least(self, thing):
         """Return the least object of the class of an object."""
-        return self.fan(thing)[0][0]
+        key = key_of(thing)
+        if key not in self.leasts:
+            fan = self.fan(thing)
+            for end, _ in fan:
+                self.leasts[key_of(end)] = fan[0][0]
+        return self.leasts[key]
 
     def is_discrete(self):
         """Tell whether there are no arrows but the identities."""
-        return all([self.degree(thing) == 1 for thing in self.objects_here()])
+        return self.only_identities(self.objects_here())
+
+    def only_identities(self, things):
+        """Tell whether no arrows but the identities go from these objects."""
+        for thing in things:
+            if self.degree(thing) > 1:
+                return False
+        return True
 
     def limited(self, rows):
         """Return the rows, or raise TooLarge if there are too many."""

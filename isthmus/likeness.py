@@ -9,6 +9,21 @@ term; all others for themselves.
 from isthmus.forms import BINDERS, is_written, part_codes
 from isthmus.nodes import bound_names
 
+# What is compared in vain costs this much time at most; the meanings are compared then.
+MOST_VISITS = 5000
+
+
+class Patience:
+    """Counts the nodes that one comparison visits: terms behind names may be met again and again."""
+
+    def __init__(self):
+        self.visits = 0
+
+    def lasts(self):
+        """Note a visit; tell whether it may go on."""
+        self.visits += 1
+        return self.visits <= MOST_VISITS
+
 
 def with_meaning(names, name, meaning):
     """Return the dict with one more name; it hides an outer one of this name."""
@@ -30,11 +45,16 @@ def settled(node, names):
             return node, names
 
 
-def alike(first, second, left, right, deep):
+def surely_same(first, second):
+    """Tell whether two nodes are found to be alike; if not, they may mean the same nevertheless."""
+    return alike(Patience(), first, second, ({}, {}), 0)
+
+
+def alike(patience, first, second, names, deep):
     """Tell whether two nodes are alike; deep is above all numbers that stand for bound names."""
-    first, left = settled(first, left)
-    second, right = settled(second, right)
-    if first.word != second.word:
+    first, left = settled(first, names[0])
+    second, right = settled(second, names[1])
+    if first.word != second.word or not patience.lasts():
         return False
     if first == second and all([same_meaning(name, name, left, right) for name in first.free]):
         return True
@@ -46,20 +66,20 @@ def alike(first, second, left, right, deep):
         if tail in one_bound:
             left_here = with_meaning(left, one_bound[tail], deep)
             right_here = with_meaning(right, two_bound[tail], deep)
-        if not parts_alike(code, one, two, left_here, right_here, deep + 1):
+        if not parts_alike(patience, code, one, two, (left_here, right_here), deep + 1):
             return False
     return True
 
 
-def parts_alike(code, one, two, left, right, deep):
+def parts_alike(patience, code, one, two, names, deep):
     """Tell whether two parts with one code are alike."""
     if is_written(code):
-        return alike(one, two, left, right, deep)
+        return alike(patience, one, two, names, deep)
     if code == "T*":
         rows = zip(one, two)
-        return len(one) == len(two) and all([alike(a, b, left, right, deep) for a, b in rows])
+        return len(one) == len(two) and all([alike(patience, a, b, names, deep) for a, b in rows])
     if code == "use":
-        return same_meaning(one, two, left, right)
+        return same_meaning(one, two, names[0], names[1])
     return code in BINDERS or one == two
 
 

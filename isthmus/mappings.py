@@ -23,6 +23,14 @@ class Maps(Groupoid):
                        for source, target, arrow in frame.lines]
         self.rows = None
         self.fans = {}
+        self.images = {}
+
+    def moved(self, position, thing):
+        """Return what the arrow of the base with this position makes of an object over its source."""
+        key = (position, key_of(thing))
+        if key not in self.images:
+            self.images[key] = self.shifts[position].image(thing)
+        return self.images[key]
 
     def trunk_shift(self, block, at):
         """Return the action along the trunk to an object of the block."""
@@ -74,7 +82,9 @@ class Maps(Groupoid):
 
     def is_discrete(self):
         """Tell whether there are no arrows but the identities; over discrete fibres maps need not be listed."""
-        return all([fibre.is_discrete() for fibre in self.fibres]) or Groupoid.is_discrete(self)
+        if all([fibre.is_discrete() for fibre in self.fibres]):
+            return True
+        return self.only_identities(self.objects_here())
 
     def degree(self, thing):
         """Return the number of arrows from an object: one for each choice of arrows from its values."""

@@ -15,7 +15,7 @@ class Scope:
         self.typed = {}
         self.equal_pairs = {}
         self.all_spots = None
-        self.all_paths = None
+        self.some_paths = None
 
     def within(self, name, kind):
         """Return the context with one more name."""
@@ -47,10 +47,10 @@ class Scope:
 
 
 def empty_scope():
-    """Return the empty context, which has one place and one step."""
+    """Return the empty context, which has one place, and no steps but its identity."""
     scope = Scope(None, "", None)
     scope.all_spots = [{}]
-    scope.all_paths = [resting({})]
+    scope.some_paths = []
     return scope
 
 
@@ -73,23 +73,33 @@ def longer_spots(world, scope):
 
 
 def scope_paths(world, scope):
-    """Return the steps of a context."""
+    """Return steps of a context of which, with their inverses and the identities, all steps are composites."""
+    scope_spots(world, scope)
     for part in scope.row():
-        if part.all_paths is None:
-            part.all_paths = longer_paths(world, part)
-    return scope.all_paths
+        if part.some_paths is None:
+            part.some_paths = lifted_paths(world, part) + inner_paths(world, part)
+    return scope.some_paths
 
 
-def longer_paths(world, scope):
-    """Return the steps of a context; those of the part ahead of the last name are known."""
+def lifted_paths(world, scope):
+    """Return the generating steps of the part ahead of the last name, from each object of this name on."""
     found = []
-    for path in scope.before.all_paths:
+    for path in scope.before.some_paths:
         action = world.action(scope.kind, path)
-        for thing in action.source.objects_here():
-            first = (thing, action.source)
-            for end, arrow in action.target.fan(action.image(thing)):
-                found.append(path.extended(scope.name, first, (end, action.target), arrow))
-            check_many(world, found)
+        found.extend([path.carried(scope.name, thing, action) for thing in action.source.objects_here()])
+    return found
+
+
+def inner_paths(world, scope):
+    """Return the steps along which all but the last name rests, and this one goes along a generating arrow."""
+    found = []
+    for spots in scope.before.all_spots:
+        groupoid = world.groupoid(scope.kind, spots)
+        if not groupoid.is_discrete():
+            frame = groupoid.frame()
+            for source, target, arrow in frame.generators():
+                ends = [(frame.rows[at], groupoid) for at in (source, target)]
+                found.append(resting(spots).extended(scope.name, ends[0], ends[1], arrow))
     return found
 
 

@@ -30,36 +30,61 @@ class LoopSearch:
 
     def __init__(self, maps, block, thing):
         root = block.root
-        frame = block.whole
+        spot = block.whole.spot
+        self.maps = maps
         self.block = block
         self.thing = thing
         self.fibre = maps.fibres[root]
-        self.shifts = [maps.shifts[frame.spot[(root, root, key_of(loop))]] for loop in block.loops]
-        self.images = [shift.image(thing) for shift in self.shifts]
-        self.most = maps.most
+        self.positions = {turn: spot[(root, root, key_of(block.loops[turn]))] for turn, _ in block.levels()}
+        self.images = {block.rest_turn(): thing}
+        for turn in self.positions:
+            self.images[turn] = maps.moved(self.positions[turn], thing)
         self.found = []
 
     def known_ahead(self):
         """Return what is known ahead: the arrow along the identity."""
         return {self.block.rest_turn(): self.fibre.identity(self.thing)}
 
+    def spread_images(self):
+        """Find what all loops make of the object; a composite makes of it what its parts make one behind the other."""
+        for _, triples in self.block.levels():
+            for later, earlier, made in triples:
+                if made not in self.images:
+                    self.images[made] = self.maps.moved(self.positions[later], self.images[earlier])
+
     def run(self):
         """Return the lists of the arrows along all loops; one more than most of them are enough."""
-        self.descend(0, self.known_ahead())
+        levels = self.block.levels()
+        options = [self.fibre.links(self.images[turn], self.thing) for turn, _ in levels]
+        if [] in options:
+            return []
+        self.spread_images()
+        options = [self.possible(turn, row) for (turn, _), row in zip(levels, options)]
+        if [] not in options:
+            self.descend(options, self.known_ahead())
         return self.found
 
-    def descend(self, depth, known):
-        """Choose the arrows along the generating loops from this one on."""
+    def possible(self, turn, arrows):
+        """Return those of the arrows along a generating loop that do not contradict themselves.
+
+        Asked ahead of the search, since a loop without such arrows must not be met again behind each choice for others.
+        """
+        triples = self.block.cycle(turn)
+        ahead = self.known_ahead()
+        return [arrow for arrow in arrows if self.follow(ahead, turn, triples, arrow) is not None]
+
+    def descend(self, options, known):
+        """Choose the arrows along the generating loops for which there are options, the last ones."""
         levels = self.block.levels()
-        if depth == len(levels):
+        if not options:
             self.found.append([known[turn] for turn in range(len(self.block.loops))])
             return
-        turn, triples = levels[depth]
-        for arrow in self.fibre.links(self.images[turn], self.thing):
+        turn, triples = levels[len(levels) - len(options)]
+        for arrow in options[0]:
             longer = self.follow(known, turn, triples, arrow)
             if longer is not None:
-                self.descend(depth + 1, longer)
-            if len(self.found) > self.most:
+                self.descend(options[1:], longer)
+            if len(self.found) > self.maps.most:
                 return
 
     def follow(self, known, turn, triples, arrow):
@@ -68,7 +93,8 @@ class LoopSearch:
         longer[turn] = arrow
         images = self.images
         for later, earlier, made in triples:
-            moved = self.shifts[later].image_link(images[earlier], self.thing, longer[earlier])
+            shift = self.maps.shifts[self.positions[later]]
+            moved = shift.image_link(images[earlier], self.thing, longer[earlier])
             link = self.fibre.compose(images[made], images[later], self.thing, moved, longer[later])
             if longer.setdefault(made, link) != link:
                 return None
@@ -79,8 +105,9 @@ class BlockChoice:
     """The functors on one block with one object at the root: the rules for loops, the ends of the trunk."""
 
     def __init__(self, maps, block, thing):
-        self.thing = thing
-        self.loops = LoopSearch(maps, block, thing).run()
+        search = LoopSearch(maps, block, thing)
+        self.loops = search.run()
+        self.images = search.images
         self.tips = []
         if self.loops:
             self.tips = [trunk_fan(maps, block, at, thing) for at in block.members]
@@ -138,11 +165,11 @@ def block_samples(maps, block):
     found = []
     for choice in block_choices(maps, block):
         tips = [row[0] for row in choice.tips]
-        found.extend([complete(maps, block, choice.thing, loops, tips) for loops in choice.loops])
+        found.extend([complete(maps, block, choice.images, loops, tips) for loops in choice.loops])
         for at, row in enumerate(choice.tips):
             for tip in row[1:]:
                 others = tips[:at] + [tip] + tips[at + 1:]
-                found.append(complete(maps, block, choice.thing, choice.loops[0], others))
+                found.append(complete(maps, block, choice.images, choice.loops[0], others))
     return found
 
 
@@ -152,23 +179,25 @@ def block_sections(maps, block, row):
     for choice in row:
         for loops in choice.loops:
             for tips in choices(choice.tips):
-                found.append(complete(maps, block, choice.thing, loops, tips))
+                found.append(complete(maps, block, choice.images, loops, tips))
     return found
 
 
-def complete(maps, block, thing, loops, tips):
-    """Return the functor on a block with this root, these arrows along loops and these tips of the trunk."""
+def complete(maps, block, images, loops, tips):
+    """Return the functor on a block with these arrows along loops and these tips of the trunk.
+
+    images are what all loops make of the object at the root.
+    """
     ends = dict(zip(block.members, tips))
+    thing = images[block.rest_turn()]
     arrows = {}
     for position, source, target, turn in block.twists():
         fibre = maps.fibres[target]
-        root = block.whole.rows[block.root]
         end, tip = ends[target]
         trunk = maps.trunk_shift(block, target)
-        around = maps.family.shift(root, root, block.loops[turn]).image(thing)
-        far = trunk.image(around)
+        far = trunk.image(images[turn])
         near = trunk.image(thing)
-        out = fibre.compose(far, near, end, trunk.image_link(around, thing, loops[turn]), tip)
+        out = fibre.compose(far, near, end, trunk.image_link(images[turn], thing, loops[turn]), tip)
         if source != block.root:
             shift = maps.shifts[position]
             other, back = ends[source]
@@ -183,6 +212,7 @@ def is_section(maps, block, values, arrows):
     """Tell whether objects and arrows, told by position, are a functor on a block; the objects are checked."""
     thing = values[block.root]
     search = LoopSearch(maps, block, thing)
+    search.spread_images()
     known = search.known_ahead()
     spot = block.whole.spot
     for turn, triples in block.levels():
@@ -200,5 +230,5 @@ def is_section(maps, block, values, arrows):
             return False
         tips.append((values[at], arrow))
     loops = [known[turn] for turn in range(len(block.loops))]
-    made = complete(maps, block, thing, loops, tips)[1]
+    made = complete(maps, block, search.images, loops, tips)[1]
     return all([arrows[position] == made[position] for position in made])

@@ -13,6 +13,7 @@ SIXTEEN = ("pairs", "r", S(4), S(4))
 MANY = ("either", ("pairs", "q", SIXTEEN, SIXTEEN), S(4))
 REST = ("either", SIXTEEN, ("either", S(4), S(3)))
 TWICE = ("pairs", "k", Z(4), Z(4))
+TWO_ALONE = ("pairs", "s", Z(2), ("ways", S(2), ("any", ("ways", Z(2), N("s"), Q(2, 2))), P(2, 1)))
 TWO_SIZES = (("x", Z(4)), ("y", Z(3)))
 
 
@@ -96,6 +97,35 @@ class NothingLargeTest(unittest.TestCase):
         side = ("split", "z", S(1), SIXTEEN, Z(4), "u", Q(4, 0), "w", Q(4, 4), N("k"))
         self.assertEqual(objects(EMPTY, ("maps", "k", ("either", S(1), SIXTEEN), of(4, side)), ()), [])
 
+    def test_no_values_along_one_loop(self):
+        # Five sizes that are 2, so 32 arrows from the one object to itself; over it two points, which the first of the
+        # sizes exchanges, each with 16 arrows to itself. No point stays, so there is no map, whatever the other loops do.
+        def twos(names):
+            kind = TWO_ALONE
+            for name in names:
+                kind = ("pairs", name, TWO_ALONE, kind)
+            return kind
+
+        base = twos("abcd")
+        points = of(2, ("first",) + TWO_ALONE[1:] + (("first",) + base[1:] + (N("k"),),))
+        self.assertEqual(len(arrows(EMPTY, base, (), *objects(EMPTY, base, ()) * 2)), 32)
+        over = ("pairs", "q", points, twos("abc"))
+        self.assertEqual(objects(EMPTY, ("maps", "k", base, over), ()), [])
+        self.assertEqual(objects(EMPTY, ("maps", "k", base, ("pairs", "q", points, S(1))), ()), [])
+
+    def test_terms_that_stand_for_others(self):
+        # Each name stands for a choice that holds the name ahead of it three times.
+        def chain(letters, last):
+            kind = ("ways", S(2), N(letters[-1]), P(2, last))
+            for at in reversed(range(len(letters))):
+                ahead = N(letters[at - 1])
+                term = ("case", 2, "case", S(2), ahead, (ahead, ahead)) if at else P(2, 1)
+                kind = ("at", letters[at], S(2), term, kind)
+            return kind
+
+        self.assertTrue(equal_types(EMPTY, chain("abcdefghijklmnopqr", 1), chain("rqponmlkjihgfedcba", 1)))
+        self.assertFalse(equal_types(EMPTY, chain("abcdefghijklmnopqr", 1), chain("rqponmlkjihgfedcba", 0)))
+
     def test_nothing_is_large_without_places(self):
         huge = ("maps", "k", Z(4), ("maps", "q", Z(4), Z(4)))
         self.assertIsNone(check_type(NONE, huge))
@@ -145,7 +175,8 @@ class LargeTest(unittest.TestCase):
         context = (("x", Z(4)), ("y", Z(4)))
         self.assertEqual(len(places(context)), 25)
         self.assertRaises(TooLarge, steps, context, (4, 4), (4, 4))
-        self.assertRaises(TooLarge, equal_types, context, of(4, N("x")), of(4, ("code", 4, of(4, N("x")))))
+        self.assertTrue(equal_types(context, of(4, N("x")), of(4, ("code", 4, of(4, N("x"))))))
+        self.assertFalse(equal_types(context, of(4, N("x")), of(4, N("y"))))
         self.assertTrue(equal_types(context, of(4, N("x")), ("at", "z", Z(4), N("x"), of(4, N("z")))))
         self.assertEqual(len(steps(context, (3, 4), (3, 4))), 144)
 
