@@ -121,8 +121,8 @@ def trunk_fan(maps, block, at, thing):
     return maps.fibres[at].fan(maps.trunk_shift(block, at).image(thing))
 
 
-def block_choices(maps, block):
-    """Return the choices for a block that there are; not all of them, if they are more than most functors."""
+def block_choices(maps, block, enough):
+    """Return the choices for a block that there are; not all of them, if they are for more functors than are enough."""
     found = []
     total = 0
     for thing in maps.fibres[block.root].objects_here():
@@ -130,7 +130,7 @@ def block_choices(maps, block):
         total += choice.many
         if choice.many > 0:
             found.append(choice)
-        if total > maps.most:
+        if total > enough:
             return found
     return found
 
@@ -138,12 +138,17 @@ def block_choices(maps, block):
 def list_sections(maps):
     """Return the ascending list of the functors."""
     blocks = maps.frame_below.blocks()
-    found = [block_choices(maps, block) for block in blocks]
-    many = product_of([sum([choice.many for choice in row]) for row in found])
+    found = []
+    many = 1
+    for block in blocks:
+        # Behind too many it only counts whether one of the other blocks has none.
+        row = block_choices(maps, block, maps.most // many)
+        many = many * sum([choice.many for choice in row])
+        if many == 0:
+            return []
+        found.append(row)
     if many > maps.most:
         raise TooLarge("too many maps")
-    if many == 0:
-        return []
     pieces = [block_sections(maps, block, row) for block, row in zip(blocks, found)]
     return sorted([maps.joined(chosen) for chosen in choices(pieces)])
 
@@ -163,7 +168,7 @@ def sample_sections(maps):
 def block_samples(maps, block):
     """Return functors on one block that differ in their loops or in one tip of the trunk from a first one."""
     found = []
-    for choice in block_choices(maps, block):
+    for choice in block_choices(maps, block, maps.most):
         tips = [row[0] for row in choice.tips]
         found.extend([complete(maps, block, choice.images, loops, tips) for loops in choice.loops])
         for at, row in enumerate(choice.tips):

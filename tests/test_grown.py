@@ -8,7 +8,7 @@ from growing import Grower, NoWay, well_named
 from isthmus.errors import IsthmusError, TooLarge
 from isthmus.types import check_type, equal_types
 
-SEEDS = range(100)
+SEEDS = range(60)
 
 
 class GrownTest(unittest.TestCase):

@@ -14,8 +14,8 @@ TREES = {path: ast.parse(path.read_text()) for path in FILES if path.suffix == "
 NODES = {"Module", "Expr", "Constant", "ImportFrom", "alias", "ClassDef", "FunctionDef", "arguments", "arg", "Assign",
          "AugAssign", "Return", "If", "IfExp", "While", "For", "Continue", "Break", "Pass", "Raise", "Call", "Name",
          "Load", "Store", "Attribute", "Subscript", "Slice", "Tuple", "List", "Dict", "ListComp", "DictComp",
-         "comprehension", "BinOp", "Add", "Sub", "Mult", "UnaryOp", "USub", "Not", "BoolOp", "And", "Or", "Compare",
-         "Try", "ExceptHandler", "Eq", "NotEq", "Lt", "LtE", "Gt", "GtE", "In", "NotIn", "Is", "IsNot", "JoinedStr", "FormattedValue"}
+         "comprehension", "BinOp", "Add", "Sub", "Mult", "FloorDiv", "UnaryOp", "USub", "Not", "BoolOp", "And", "Or",
+         "Compare", "Try", "ExceptHandler", "Eq", "NotEq", "Lt", "LtE", "Gt", "GtE", "In", "NotIn", "Is", "IsNot", "JoinedStr", "FormattedValue"}
 BUILTINS = {"len", "range", "enumerate", "zip", "min", "max", "sum", "abs", "sorted", "reversed", "int", "str", "bool",
             "list", "tuple", "dict", "isinstance", "repr", "any", "all", "ValueError"}
 METHODS = {"append", "clear", "copy", "count", "endswith", "extend", "find", "get", "index", "insert", "items", "join",

@@ -90,6 +90,25 @@ class UpToMostTest(unittest.TestCase):
         self.assertEqual(inverse(EMPTY, kind, (), thing, thing, ((1, 2, 0), (0, 2, 1))), ((2, 0, 1), (0, 2, 1)))
 
 
+    def test_a_context_of_many_steps(self):
+        # Eight times the size 2, so one place and 256 steps; each of them is its own inverse.
+        kind = TWO_ALONE
+        for name in "abcdefg":
+            kind = ("pairs", name, TWO_ALONE, kind)
+        context = (("p", kind),)
+        place = places(context)[0]
+        found = steps(context, place, place)
+        self.assertEqual(len(found), 256)
+        self.assertEqual(back_step(context, place, place, found[77]), found[77])
+        ways = ("ways", kind, N("p"), N("p"))
+        self.assertEqual(objects(context, ways, place), [step[0] for step in found])
+        self.assertEqual(act(context, ways, place, place, found[9], found[200][0]), found[200][0])
+        self.assertTrue(equal_types(context, ways, ("classes", ways)))
+        self.assertFalse(equal_types(context, ways, ("pairs", "r", S(1), ways)))
+        # All arrows commute, so each of them makes a map; as many as there are arrows.
+        self.assertEqual(len(objects(EMPTY, ("maps", "r", kind, ("ways", kind, N("r"), N("r"))), ())), 256)
+
+
 class NothingLargeTest(unittest.TestCase):
 
     def test_no_values_at_one_object(self):
@@ -158,7 +177,8 @@ class LargeTest(unittest.TestCase):
         for kind in (("maps", "k", Z(3), Z(3)), ("maps", "k", Z(4), ("maps", "q", Z(4), Z(4))),
                      ("maps", "k", MANY, S(2)), ("maps", "k", MARKS, MARKS), ("maps", "k", MARKS, S(2)),
                      ("pairs", "k", SIXTEEN, ("pairs", "q", SIXTEEN, SIXTEEN)), ("either", MANY, ("either", MANY, MANY)),
-                     ("maps", "k", TWICE, S(1)), ("classes", TWICE)):
+                     ("maps", "k", TWICE, S(1)), ("classes", TWICE),
+                     ("maps", "k", ("pairs", "q", ("classes", Z(4)), Z(3)), ("maps", "r", S(3), ("maps", "t", S(3), S(2))))):
             self.assertRaises(TooLarge, objects, EMPTY, kind, ())
 
     def test_arrows(self):
