@@ -227,13 +227,23 @@ def is_section(maps, block, values, arrows):
         known = search.follow(known, turn, triples, arrow)
         if known is None:
             return False
-    tips = []
-    for at in block.members:
-        arrow = arrows[spot[(block.root, at, key_of(block.trunk[at]))]]
-        moved = maps.trunk_shift(block, at).image(thing)
-        if not maps.fibres[at].has_link(moved, values[at], arrow):
-            return False
-        tips.append((values[at], arrow))
+    tips = told_tips(maps, block, values, arrows)
+    if tips is None:
+        return False
     loops = [known[turn] for turn in range(len(block.loops))]
     made = complete(maps, block, search.images, loops, tips)[1]
     return all([arrows[position] == made[position] for position in made])
+
+
+def told_tips(maps, block, values, arrows):
+    """Return the told ends of the trunk, or None if there is no such arrow, or the root does not stay at rest."""
+    tips = []
+    for at in block.members:
+        arrow = arrows[block.whole.spot[(block.root, at, key_of(block.trunk[at]))]]
+        moved = maps.trunk_shift(block, at).image(values[block.root])
+        if not maps.fibres[at].has_link(moved, values[at], arrow):
+            return None
+        if at == block.root and arrow != maps.fibres[at].identity(moved):
+            return None
+        tips.append((values[at], arrow))
+    return tips
