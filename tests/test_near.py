@@ -96,7 +96,8 @@ class NearTest(unittest.TestCase):
                 (("maps", "k", S(1), Z(2)), ((2,), (still,)), ((2,), (turned,))),
                 (("maps", "k", S(2), Z(2)), ((2, 2), (still, still)), ((2, 2), (still, turned))),
                 (("maps", "k", Z(1), Z(2)), ((2, 1), (still, (0,))), ((2, 1), (turned, (0,)))),
-                (("maps", "k", Z(2), Z(2)), ((0, 0, 2), ((), (), still, turned)), ((0, 0, 2), ((), (), turned, turned))),
+                (("maps", "k", Z(2), Z(2)),
+                 ((0, 0, 2), ((), (), still, turned)), ((0, 0, 2), ((), (), turned, turned))),
                 # One class of two objects: all that leads to the first one is turned once more.
                 (("maps", "k", PATHS, Z(2)), ((2, 2), (still, turned, turned, still)),
                  ((2, 2), (turned, turned, still, still)))):
