@@ -22,13 +22,27 @@ class Entry:
             self.checker.check_kind(kind, self.scope)
             self.scope = self.scope.within(name, kind)
 
+    def read_node(self, written, sort):
+        """Check the form and the names of a type (sort K) or term (sort T); return its node."""
+        check_form(written, sort)
+        check_names(written, tuple(self.scope.names()))
+        return self.world.store.read(written)
+
     def read_kind(self, written):
         """Check a type; return its node."""
-        check_form(written, "K")
-        check_names(written, tuple(self.scope.names()))
-        kind = self.world.store.read(written)
+        kind = self.read_node(written, "K")
         self.checker.check_kind(kind, self.scope)
         return kind
+
+    def read_term(self, written):
+        """Check a term; return its node."""
+        term = self.read_node(written, "T")
+        self.checker.infer(term, self.scope)
+        return term
+
+    def kind_of(self, term):
+        """Return the type of a checked term."""
+        return self.checker.infer(term, self.scope)
 
     def read_place(self, place):
         """Check a place; return it by names."""

@@ -17,6 +17,23 @@ def equal_kinds(world, scope, first, second):
     return scope.equal_pairs[key]
 
 
+def equal_meanings(world, scope, first, second):
+    """Tell whether two terms of equal types are the same at each place and along each step.
+
+    If they are so along the steps of a generating row, they are along the inverses and composites of these.
+    """
+    if surely_same(first, second):
+        return True
+    for spots in scope_spots(world, scope):
+        if world.value(first, spots) != world.value(second, spots):
+            return False
+    for path in scope_paths(world, scope):
+        if path.touches(first.free) or path.touches(second.free):
+            if world.along(first, path) != world.along(second, path):
+                return False
+    return True
+
+
 def agree_everywhere(world, scope, first, second):
     """Tell whether two types are the same at each place, and act alike along each step.
 

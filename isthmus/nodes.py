@@ -42,6 +42,15 @@ class Store:
         return self.node(data[0], tuple(parts))
 
 
+def written(part):
+    """Return a type or term, or a part of one, as callers write it."""
+    if isinstance(part, Node):
+        return (part.word,) + written(part.parts)
+    if isinstance(part, tuple):
+        return tuple([written(one) for one in part])
+    return part
+
+
 def bound_names(word, parts):
     """Return a dict from the codes of the binders to the names that are bound."""
     return {code: part for code, part in zip(part_codes(word), parts) if code in BINDERS}

@@ -1,7 +1,7 @@
 """Contexts, name by name, with the lists of their places and steps."""
 
 from isthmus.errors import TooLarge
-from isthmus.paths import Path, resting, with_spot
+from isthmus.paths import resting, with_spot
 
 
 class Scope:
@@ -119,19 +119,33 @@ def step_of(scope, path):
     return tuple([path.part(name) for name in scope.names()])
 
 
-def paths_between(world, scope, start, end):
-    """Return the ascending list of the steps between two places."""
-    found = [Path({}, {}, {})]
+def spread_paths(world, scope, start, fan_of):
+    """Return the steps from a place, name by name along the pairs (object, arrow) of fan_of(name, groupoid, object)."""
+    found = [resting({})]
     for part in scope.row():
         name = part.name
         longer = []
         for path in found:
             action = world.action(part.kind, path)
-            arrows = action.target.links(action.image(start[name][0]), end[name][0])
-            longer.extend([path.extended(name, start[name], end[name], arrow) for arrow in arrows])
+            fan = fan_of(name, action.target, action.image(start[name][0]))
+            longer.extend([path.extended(name, start[name], (thing, action.target), arrow) for thing, arrow in fan])
             check_many(world, longer)
         found = longer
     return found
+
+
+def paths_between(world, scope, start, end):
+    """Return the ascending list of the steps between two places."""
+    def fan_of(name, groupoid, thing):
+        """Return the arrows from an object to that of the end."""
+        return [(end[name][0], arrow) for arrow in groupoid.links(thing, end[name][0])]
+
+    return spread_paths(world, scope, start, fan_of)
+
+
+def paths_from(world, scope, start):
+    """Return the steps from a place, in any order."""
+    return spread_paths(world, scope, start, lambda name, groupoid, thing: groupoid.fan(thing))
 
 
 def joined_path(world, scope, first, second):

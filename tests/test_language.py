@@ -11,15 +11,18 @@ FILES = sorted(path for path in FOLDER.iterdir() if path.name != "__pycache__")
 TREES = {path: ast.parse(path.read_text()) for path in FILES if path.suffix == ".py"}
 
 # Fewer kinds of syntax than the rules allow: the package needs no more.
-NODES = {"Module", "Expr", "Constant", "ImportFrom", "alias", "ClassDef", "FunctionDef", "arguments", "arg", "Assign",
-         "AugAssign", "Return", "If", "IfExp", "While", "For", "Continue", "Break", "Pass", "Raise", "Call", "Name",
-         "Load", "Store", "Attribute", "Subscript", "Slice", "Tuple", "List", "Dict", "ListComp", "DictComp",
-         "comprehension", "BinOp", "Add", "Sub", "Mult", "FloorDiv", "UnaryOp", "USub", "Not", "BoolOp", "And", "Or",
-         "Compare", "Try", "ExceptHandler", "Eq", "NotEq", "Lt", "LtE", "Gt", "GtE", "In", "NotIn", "Is", "IsNot", "JoinedStr", "FormattedValue"}
+NODES = {"Module", "Expr", "Constant", "ImportFrom", "alias", "ClassDef", "FunctionDef", "Lambda", "arguments", "arg",
+         "Assign", "AugAssign", "Return", "If", "IfExp", "While", "For", "Continue", "Break", "Pass", "Raise", "Call",
+         "Name", "Load", "Store", "Attribute", "Subscript", "Slice", "Tuple", "List", "Dict", "ListComp", "DictComp",
+         "comprehension", "BinOp", "Add", "Sub", "Mult", "FloorDiv", "Pow", "UnaryOp", "USub", "Not", "BoolOp", "And",
+         "Or", "Compare", "Try", "ExceptHandler", "Eq", "NotEq", "Lt", "LtE", "Gt", "GtE", "In", "NotIn", "Is", "IsNot",
+         "JoinedStr", "FormattedValue"}
+LIBRARY = {"itertools": ["permutations"], "math": ["gcd"]}
 BUILTINS = {"len", "range", "enumerate", "zip", "min", "max", "sum", "abs", "sorted", "reversed", "int", "str", "bool",
-            "list", "tuple", "dict", "isinstance", "repr", "any", "all", "ValueError"}
+            "list", "tuple", "dict", "isinstance", "repr", "any", "all", "divmod", "ValueError"}
 METHODS = {"append", "clear", "copy", "count", "endswith", "extend", "find", "get", "index", "insert", "items", "join",
-           "keys", "pop", "remove", "replace", "reverse", "setdefault", "split", "startswith", "update", "values"}
+           "keys", "pop", "remove", "replace", "reverse", "setdefault", "split", "startswith", "update", "values",
+           "zfill"}
 BARRED = {"register", "mro", "elements", "open", "input", "law", "version_info", "with_traceback", "add_note",
           "attrgetter", "breakpoint", "builtins", "compile", "copyright", "credits", "delattr", "dir", "eval", "exec",
           "exit", "gc", "getattr", "globals", "hasattr", "help", "id", "importlib", "license", "locals",
@@ -71,8 +74,8 @@ class LanguageTest(unittest.TestCase):
                     continue
                 names = [alias.name for alias in node.names]
                 self.assertTrue(all(alias.asname is None for alias in node.names))
-                if node.module == "itertools":
-                    self.assertEqual(names, ["permutations"])
+                if node.module in LIBRARY:
+                    self.assertEqual(names, LIBRARY[node.module])
                 else:
                     package, stem = node.module.split(".")
                     self.assertEqual(package, "isthmus")
