@@ -1,7 +1,7 @@
-"""Compares every answer of the program about a context or a type with the slow reading in plain.py."""
+"""Compares every answer of the program about a context, a type or a term with the slow reading in plain.py."""
 
 import plain
-from isthmus import contexts, types
+from isthmus import contexts, machine, terms, types
 
 
 def compare_context(test, G):
@@ -51,3 +51,24 @@ def thinned(rows, many):
     """Return at most so many of the rows, from the first one on, spread evenly."""
     gap = -(-len(rows) // many)
     return rows[::gap] if rows else rows
+
+
+def compare_term(test, G, t):
+    """Compare the type, the objects and the arrows of a term at all places and along all steps."""
+    test.assertEqual(terms.type_of(G, t), plain.type_of(G, t))
+    objects, arrows = machine.table(G, t)
+    test.assertEqual(objects, [(g, plain.val(G, t, g)) for g in plain.places(G)])
+    test.assertEqual(arrows, [row + (plain.alo(G, t, *row),) for row in sorted(plain.all_steps(G))])
+    for g, a in thinned(objects, 6):
+        test.assertEqual(machine.value(G, t, g), a)
+    for g, h, s, u in thinned(arrows, 6):
+        test.assertEqual(machine.along(G, t, g, h, s), u)
+
+
+def plain_same(G, t, r):
+    """Point 11, by the slow reading."""
+    if not plain.equal(G, plain.type_of(G, t), plain.type_of(G, r)):
+        return False
+    if any(plain.val(G, t, g) != plain.val(G, r, g) for g in plain.places(G)):
+        return False
+    return all(plain.alo(G, t, *row) == plain.alo(G, r, *row) for row in plain.all_steps(G))
