@@ -13,6 +13,9 @@ class Group:
     def __init__(self, block):
         self.rest = block.rest_turn()
         self.rows = multiplication(block)
+        self.powers = [self.powers_of(element) for element in range(len(self.rows))]
+        self.inverses = [row[-2] if len(row) > 1 else row[0] for row in self.powers]
+        self.roots = self.find_roots()
         self.colours = [0] * len(self.rows)
         self.prints = []
         self.find_colours()
@@ -21,52 +24,84 @@ class Group:
         """Return the composite of two elements, first and then second."""
         return self.rows[second][first]
 
-    def period(self, element):
-        """Return how often an element must be taken to give the neutral one."""
-        count = 1
-        power = element
-        while power != self.rest:
-            power = self.rows[element][power]
-            count += 1
-        return count
+    def powers_of(self, element):
+        """Return an element, its square and so on, up to the neutral element."""
+        powers = [element]
+        while powers[-1] != self.rest:
+            powers.append(self.rows[element][powers[-1]])
+        return powers
+
+    def find_roots(self):
+        """Return, for each element, the pairs (k, root) of which it is a power."""
+        roots = [[] for _ in self.rows]
+        for element, powers in enumerate(self.powers):
+            for at, power in enumerate(powers):
+                roots[power].append((at, element))
+        return roots
 
     def find_colours(self):
-        """Tell the elements apart, by their orders and then by the colours of their products, as far as this goes."""
-        signs = [(self.period(element),) for element in range(len(self.rows))]
+        """Tell the elements apart by their orders, and then again and again by the colours around them."""
+        signs = [(len(powers),) for powers in self.powers]
         many = 0
         while self.paint(signs) > many:
             many = max(self.colours) + 1
             signs = [self.sign(element, many) for element in range(len(self.rows))]
 
     def paint(self, signs):
-        """Give each element a colour by its sign; return how many there are. The print is the same for like groups."""
-        self.prints.append(sorted(signs))
-        kinds = {}
-        for sign in self.prints[-1]:
-            kinds.setdefault(sign, len(kinds))
-        self.colours = [kinds[sign] for sign in signs]
+        """Give each element a colour by its sign; return how many there are. Like groups get the same prints."""
+        counts = {}
+        for sign in signs:
+            counts[sign] = counts.get(sign, 0) + 1
+        kinds = sorted(counts)
+        numbers = {sign: at for at, sign in enumerate(kinds)}
+        self.prints.append([(sign, counts[sign]) for sign in kinds])
+        self.colours = [numbers[sign] for sign in signs]
         return len(kinds)
 
     def sign(self, element, many):
-        """Return what tells an element from others of its colour: the colours of its products with all."""
+        """Return what tells an element from others of its colour; many is the number of colours.
+
+        These are the colours of its powers and roots, and of its products and commutators with all elements.
+        """
         colours = self.colours
-        row = self.rows[element]
-        pairs = [colours[other] * many + colours[row[other]] for other in range(len(row))]
-        return (colours[element],) + tuple(sorted(pairs))
+        rows = self.rows
+        inverses = self.inverses
+        row = rows[element]
+        around = []
+        for other, made in enumerate(row):
+            twist = rows[inverses[rows[other][element]]][made]
+            around.append((colours[other] * many + colours[made]) * many + colours[twist])
+        roots = [at * many + colours[root] for at, root in self.roots[element]]
+        powers = [colours[power] for power in self.powers[element]]
+        return (colours[element], tuple(powers), tuple(sorted(roots)), tuple(sorted(around)))
 
     def levels(self):
-        """Return generating elements, those of rare colours first, each with the triples that it adds (see Block)."""
-        counts = [self.colours.count(colour) for colour in range(max(self.colours) + 1)]
-        ranks = sorted([(counts[self.colours[element]], element) for element in range(len(self.rows))])
+        """Return generating elements, each with the triples that it adds (see Block)."""
         known = {self.rest: True}
         order = [self.rest]
         chosen = []
         found = []
-        for _, element in ranks:
-            if element not in known:
-                chosen.append(element)
-                found.append((element, spread(self, known, order, chosen)))
+        while len(order) < len(self.rows):
+            element = self.next_element(known, order, chosen)
+            chosen.append(element)
+            found.append((element, spread(self, known, order, chosen)))
         return found
+
+    def next_element(self, known, order, chosen):
+        """Return an element that adds most to what is generated; among such ones, one of a common colour.
+
+        Those of rare colours often commute with all others, so a wrong image for them would be noticed late.
+        """
+        firsts = {}
+        for element, colour in enumerate(self.colours):
+            if element not in known:
+                firsts.setdefault(colour, element)
+        ranks = []
+        for colour in firsts:
+            longer = list(order)
+            spread(self, dict(known), longer, chosen + [firsts[colour]])
+            ranks.append((-len(longer), -self.colours.count(colour), firsts[colour]))
+        return min(ranks)[2]
 
 
 def multiplication(block):

@@ -14,10 +14,10 @@ def alone(m, x):
     return ("pairs", x, Z(m), ("ways", S(2), ("any", ("ways", Z(m), N(x), Q(m, m))), P(2, 1)))
 
 
-def product(*kinds):
+def product(*kinds, x="x"):
     found = kinds[0]
     for at, kind in enumerate(kinds[1:]):
-        found = ("pairs", "abcdefgh"[at] + "x", found, kind)
+        found = ("pairs", "abcdefgh"[at] + x, found, kind)
     return found
 
 
