@@ -47,24 +47,20 @@ class Frame:
         return found
 
 
-class Block:
-    """One class of objects of a frame."""
+class Loops:
+    """The arrows from an object to itself, told by their positions in a list of them."""
 
-    def __init__(self, frame, root, trunk, loops):
-        self.whole = frame
-        self.root = root
-        self.members = sorted(trunk)
-        self.trunk = trunk
+    def __init__(self, groupoid, thing, loops):
+        self.listed = groupoid
+        self.thing = thing
         self.loops = loops
         self.turns = {key_of(loop): at for at, loop in enumerate(loops)}
         self.found_levels = None
-        self.found_cycles = {}
-        self.found_twists = None
+        self.found_table = None
 
     def rest_turn(self):
         """Return the position of the identity among the loops."""
-        frame = self.whole
-        return self.turns[key_of(frame.listed.identity(frame.rows[self.root]))]
+        return self.turns[key_of(self.listed.identity(self.thing))]
 
     def levels(self):
         """Return generating loops, each with the triples (g, w, v) that it adds, where v is g * w.
@@ -75,18 +71,29 @@ class Block:
             self.found_levels = find_levels(self)
         return self.found_levels
 
-    def cycle(self, turn):
-        """Return the triples (g, w, v) of one loop g alone, where w is any loop that it makes up."""
-        if turn not in self.found_cycles:
-            rest = self.rest_turn()
-            self.found_cycles[turn] = spread(self, {rest: True}, [rest], [turn])
-        return self.found_cycles[turn]
-
     def product(self, first, second):
         """Return the position of the composite of two loops, first and then second."""
-        root = self.whole.rows[self.root]
-        loop = self.whole.listed.compose(root, root, root, self.loops[first], self.loops[second])
+        thing = self.thing
+        loop = self.listed.compose(thing, thing, thing, self.loops[first], self.loops[second])
         return self.turns[key_of(loop)]
+
+    def table(self):
+        """Return all composites: the row v has v * w at w (first w, then v)."""
+        if self.found_table is None:
+            self.found_table = find_table(self)
+        return self.found_table
+
+
+class Block(Loops):
+    """One class of objects of a frame, with the loops at its root."""
+
+    def __init__(self, frame, root, trunk, loops):
+        Loops.__init__(self, frame.listed, frame.rows[root], loops)
+        self.whole = frame
+        self.root = root
+        self.members = sorted(trunk)
+        self.trunk = trunk
+        self.found_twists = None
 
     def twists(self):
         """Return (position, source, target, w) for each arrow: on a trunk it is the loop w, then the other trunk."""
@@ -114,7 +121,7 @@ def find_blocks(frame):
 
 
 def find_levels(block):
-    """Return the levels of a block: each new generating loop at least doubles what is made up."""
+    """Return the levels of loops: each new generating loop at least doubles what is made up."""
     rest = block.rest_turn()
     known = {rest: True}
     order = [rest]
@@ -142,6 +149,20 @@ def spread(block, known, order, chosen):
                 order.append(made)
         at += 1
     return triples
+
+
+def find_table(block):
+    """Return the table of loops, worked out from the composites with generating loops behind."""
+    many = len(block.loops)
+    triples = [triple for _, row in block.levels() for triple in row]
+    behind = {}
+    for later, earlier, made in triples:
+        behind.setdefault(later, [0] * many)[earlier] = made
+    rows = {block.rest_turn(): list(range(many))}
+    for later, earlier, made in triples:
+        if made not in rows:
+            rows[made] = [behind[later][turn] for turn in rows[earlier]]
+    return [rows[turn] for turn in range(many)]
 
 
 def find_twists(block):

@@ -12,7 +12,7 @@ class Group:
 
     def __init__(self, block):
         self.rest = block.rest_turn()
-        self.rows = multiplication(block)
+        self.rows = block.table()
         self.powers = [self.powers_of(element) for element in range(len(self.rows))]
         self.inverses = [row[-2] if len(row) > 1 else row[0] for row in self.powers]
         self.roots = self.find_roots()
@@ -102,20 +102,6 @@ class Group:
             spread(self, dict(known), longer, chosen + [firsts[colour]])
             ranks.append((-len(longer), -self.colours.count(colour), firsts[colour]))
         return min(ranks)[2]
-
-
-def multiplication(block):
-    """Return the multiplication table of the loops of a block, worked out from the products with generating loops."""
-    many = len(block.loops)
-    triples = [triple for _, row in block.levels() for triple in row]
-    behind = {}
-    for later, earlier, made in triples:
-        behind.setdefault(later, [0] * many)[earlier] = made
-    rows = {block.rest_turn(): list(range(many))}
-    for later, earlier, made in triples:
-        if made not in rows:
-            rows[made] = [behind[later][element] for element in rows[earlier]]
-    return [rows[element] for element in range(many)]
 
 
 def isomorphism(first, second):

@@ -6,6 +6,7 @@ the arrows along all others follow.
 """
 
 from isthmus.errors import TooLarge
+from isthmus.loops import LoopImages, LoopSearch
 from isthmus.paths import key_of
 
 
@@ -25,93 +26,26 @@ def product_of(numbers):
     return total
 
 
-class LoopSearch:
-    """The ways to choose the arrows along the loops of one block, with one object at its root."""
-
-    def __init__(self, maps, block, thing):
-        root = block.root
-        spot = block.whole.spot
-        self.maps = maps
-        self.block = block
-        self.thing = thing
-        self.fibre = maps.fibres[root]
-        self.positions = {turn: spot[(root, root, key_of(block.loops[turn]))] for turn, _ in block.levels()}
-        self.images = {block.rest_turn(): thing}
-        for turn in self.positions:
-            self.images[turn] = maps.moved(self.positions[turn], thing)
-        self.found = []
-
-    def known_ahead(self):
-        """Return what is known ahead: the arrow along the identity."""
-        return {self.block.rest_turn(): self.fibre.identity(self.thing)}
-
-    def spread_images(self):
-        """Find what all loops make of the object; a composite makes of it what its parts make one behind the other."""
-        for _, triples in self.block.levels():
-            for later, earlier, made in triples:
-                if made not in self.images:
-                    self.images[made] = self.maps.moved(self.positions[later], self.images[earlier])
-
-    def run(self):
-        """Return the lists of the arrows along all loops; one more than most of them are enough."""
-        levels = self.block.levels()
-        options = [self.fibre.links(self.images[turn], self.thing) for turn, _ in levels]
-        if [] in options:
-            return []
-        self.spread_images()
-        options = [self.possible(turn, row) for (turn, _), row in zip(levels, options)]
-        if [] not in options:
-            self.descend(options, self.known_ahead())
-        return self.found
-
-    def possible(self, turn, arrows):
-        """Return those of the arrows along a generating loop that do not contradict themselves.
-
-        Asked ahead of the search, since a loop without such arrows must not be met again behind each choice for others.
-        """
-        triples = self.block.cycle(turn)
-        ahead = self.known_ahead()
-        return [arrow for arrow in arrows if self.follow(ahead, turn, triples, arrow) is not None]
-
-    def descend(self, options, known):
-        """Choose the arrows along the generating loops for which there are options, the last ones."""
-        levels = self.block.levels()
-        if not options:
-            self.found.append([known[turn] for turn in range(len(self.block.loops))])
-            return
-        turn, triples = levels[len(levels) - len(options)]
-        for arrow in options[0]:
-            longer = self.follow(known, turn, triples, arrow)
-            if longer is not None:
-                self.descend(options[1:], longer)
-            if len(self.found) > self.maps.most:
-                return
-
-    def follow(self, known, turn, triples, arrow):
-        """Return all that follows if this arrow is chosen along a loop, or None if it contradicts itself."""
-        longer = dict(known)
-        longer[turn] = arrow
-        images = self.images
-        for later, earlier, made in triples:
-            shift = self.maps.shifts[self.positions[later]]
-            moved = shift.image_link(images[earlier], self.thing, longer[earlier])
-            link = self.fibre.compose(images[made], images[later], self.thing, moved, longer[later])
-            if longer.setdefault(made, link) != link:
-                return None
-        return longer
-
-
 class BlockChoice:
     """The functors on one block with one object at the root: the rules for loops, the ends of the trunk."""
 
     def __init__(self, maps, block, thing):
-        search = LoopSearch(maps, block, thing)
-        self.loops = search.run()
-        self.images = search.images
+        told = LoopImages(maps, block, thing)
+        self.images = told.images
+        self.search = None
+        self.numbers = []
         self.tips = []
-        if self.loops:
+        if told.is_reached():
+            told.spread_images()
+            self.search = LoopSearch(told)
+            self.numbers = self.search.run()
+        if self.numbers:
             self.tips = [trunk_fan(maps, block, at, thing) for at in block.members]
-        self.many = len(self.loops) * product_of([len(tips) for tips in self.tips])
+        self.many = len(self.numbers) * product_of([len(tips) for tips in self.tips])
+
+    def loop_rows(self):
+        """Return the lists of the arrows along all loops."""
+        return [[self.search.arrow(turn, number) for turn, number in enumerate(row)] for row in self.numbers]
 
 
 def trunk_fan(maps, block, at, thing):
@@ -170,11 +104,12 @@ def block_samples(maps, block):
     found = []
     for choice in block_choices(maps, block, maps.most):
         tips = [row[0] for row in choice.tips]
-        found.extend([complete(maps, block, choice.images, loops, tips) for loops in choice.loops])
+        rows = choice.loop_rows()
+        found.extend([complete(maps, block, choice.images, loops, tips) for loops in rows])
         for at, row in enumerate(choice.tips):
             for tip in row[1:]:
                 others = tips[:at] + [tip] + tips[at + 1:]
-                found.append(complete(maps, block, choice.images, choice.loops[0], others))
+                found.append(complete(maps, block, choice.images, rows[0], others))
     return found
 
 
@@ -182,7 +117,7 @@ def block_sections(maps, block, row):
     """Return the functors on one block, as pairs of dicts (objects by position, arrows by position)."""
     found = []
     for choice in row:
-        for loops in choice.loops:
+        for loops in choice.loop_rows():
             for tips in choices(choice.tips):
                 found.append(complete(maps, block, choice.images, loops, tips))
     return found
@@ -197,6 +132,9 @@ def complete(maps, block, images, loops, tips):
     thing = images[block.rest_turn()]
     arrows = {}
     for position, source, target, turn in block.twists():
+        if source == target == block.root:
+            arrows[position] = loops[turn]
+            continue
         fibre = maps.fibres[target]
         end, tip = ends[target]
         trunk = maps.trunk_shift(block, target)
@@ -216,22 +154,22 @@ def complete(maps, block, images, loops, tips):
 def is_section(maps, block, values, arrows):
     """Tell whether objects and arrows, told by position, are a functor on a block; the objects are checked."""
     thing = values[block.root]
-    search = LoopSearch(maps, block, thing)
-    search.spread_images()
-    known = search.known_ahead()
+    told = LoopImages(maps, block, thing)
+    told.spread_images()
+    known = told.known_ahead()
     spot = block.whole.spot
     for turn, triples in block.levels():
         arrow = arrows[spot[(block.root, block.root, key_of(block.loops[turn]))]]
-        if not search.fibre.has_link(search.images[turn], thing, arrow):
+        if not told.fibre.has_link(told.images[turn], thing, arrow):
             return False
-        known = search.follow(known, turn, triples, arrow)
+        known = told.follow(known, turn, triples, arrow)
         if known is None:
             return False
     tips = told_tips(maps, block, values, arrows)
     if tips is None:
         return False
     loops = [known[turn] for turn in range(len(block.loops))]
-    made = complete(maps, block, search.images, loops, tips)[1]
+    made = complete(maps, block, told.images, loops, tips)[1]
     return all([arrows[position] == made[position] for position in made])
 
 

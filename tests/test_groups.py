@@ -4,7 +4,7 @@ import itertools
 import random
 import unittest
 
-from isthmus.frames import spread
+from isthmus.frames import Loops
 from isthmus.groups import Group, isomorphism
 
 
@@ -13,26 +13,21 @@ def joined(first, second):
     return tuple(first[k] for k in second)
 
 
-class Loops:
-    """A group of permutations in the place of a block."""
+class Permutations:
+    """A groupoid of one object, whose arrows are permutations."""
 
-    def __init__(self, loops):
-        self.loops = loops
-        self.turns = {loop: at for at, loop in enumerate(loops)}
+    def __init__(self, many):
+        self.many = many
 
-    def rest_turn(self):
-        return self.turns[tuple(range(len(self.loops[0])))]
+    def identity(self, thing):
+        return tuple(range(self.many))
 
-    def product(self, first, second):
-        return self.turns[joined(self.loops[second], self.loops[first])]
+    def compose(self, start, middle, end, first, second):
+        return joined(second, first)
 
-    def levels(self):
-        known, order, chosen, found = {self.rest_turn(): True}, [self.rest_turn()], [], []
-        for turn in range(len(self.loops)):
-            if turn not in known:
-                chosen.append(turn)
-                found.append((turn, spread(self, known, order, chosen)))
-        return found
+
+def group_of(loops):
+    return Group(Loops(Permutations(len(loops[0])), 0, loops))
 
 
 def generated(generators):
@@ -91,7 +86,7 @@ class GroupsTest(unittest.TestCase):
     def test_tables(self):
         for generators in GROUPS[24] + GROUPS[8]:
             loops = self.shuffled(generated(generators), 3)
-            group = Group(Loops(loops))
+            group = group_of(loops)
             for a, b in itertools.product(range(len(loops)), repeat=2):
                 self.assertEqual(loops[group.rows[a][b]], joined(loops[a], loops[b]))
 
@@ -101,7 +96,7 @@ class GroupsTest(unittest.TestCase):
             for seed, generators in enumerate(rows):
                 loops = generated(generators)
                 self.assertEqual(len(loops), many)
-                groups.append([Group(Loops(self.shuffled(loops, seed + turn))) for turn in range(2)])
+                groups.append([group_of(self.shuffled(loops, seed + turn)) for turn in range(2)])
             for one, two in itertools.product(range(len(rows)), repeat=2):
                 first, second = groups[one][0], groups[two][1]
                 images = isomorphism(first, second)
