@@ -12,12 +12,14 @@ class Family:
         self.base = base
         self.kind = kind
         self.spots = spots
+        # Where the type does not speak of the name, it is the same over all objects, and no arrow moves anything.
+        self.is_even = name not in kind.free
         self.fibres = {}
         self.shifts = {}
 
     def over(self, thing):
         """Return the groupoid over an object."""
-        key = key_of(thing)
+        key = "" if self.is_even else key_of(thing)
         if key not in self.fibres:
             spots = with_spot(self.spots, self.name, (thing, self.base))
             self.fibres[key] = self.world.groupoid(self.kind, spots)
@@ -25,7 +27,7 @@ class Family:
 
     def shift(self, start, end, arrow):
         """Return the action along an arrow."""
-        key = (key_of(start), key_of(end), key_of(arrow))
+        key = "" if self.is_even else (key_of(start), key_of(end), key_of(arrow))
         if key not in self.shifts:
             first = (start, self.base)
             second = (end, self.base)
