@@ -184,6 +184,36 @@ class ManySectionsTest(unittest.TestCase):
         self.assertEqual(len(sections((("r", alone(4, "s")),), alone(3, "t"))), 10)
         self.assertEqual(len(sections((("r", alone(2, "s")), ("q", alone(2, "s"))), alone(4, "t"))), 52)
 
+    def test_sections_over_groups_that_move_things(self):
+        # Arrows in copies that the points of r tell are chosen by what the loops that keep one point do in one copy: for
+        # each map of groups up to conjugation, so many as there are arrows in all copies by those that keep the map.
+        def moved(m, kind):
+            points = of(m, ("first",) + alone(m, "s")[1:] + (N("r"),))
+            return (("r", alone(m, "s")),), ("maps", "q", points, kind)
+
+        self.assertEqual(len(sections(*moved(3, alone(2, "t")))), 2 ** 3 // 2 + 2 ** 3 // 2)
+        self.assertEqual(len(sections(*moved(4, alone(2, "t")))), 2 ** 4 // 2 + 2 ** 4 // 2)
+        self.assertEqual(len(sections(*moved(2, alone(3, "t")))), 6 ** 2 // 6)
+        self.assertEqual(len(sections(*moved(3, alone(3, "t")))), 6 ** 3 // 6 + 6 ** 3 // 2)
+        for context, kind in (moved(2, Z(2)), moved(3, Z(1)), moved(2, alone(3, "t"))):
+            self.assertEqual(sections(context, kind), plain_closed.meanings(context, kind))
+
+    def test_none_though_each_object_is_kept(self):
+        # Turns of four points, and maps f from these to the points of r that no turn keeps: the exchange of the points
+        # of r goes along with turns alone, and a turn done twice is not the identity.
+        two = of(2, ("first",) + alone(2, "s")[1:] + (N("r"),))
+        _, n, sizes, (_, w, ways, kept) = cycles(4, "n")
+        points = of(4, N(n))
+        turned = ("carry", "i", Z(4), of(4, N("i")), N(n), N(n), N(w), N("q"))
+        ends = [("app", "p", points, two, N("f"), part) for part in (N("q"), turned)]
+        alike = ("any", ("pairs", "q", points, ("ways", two, ends[0], ends[1])))
+        over = ("pairs", "f", ("maps", "p", points, two), ("ways", S(2), alike, P(2, 0)))
+        kind = ("pairs", n, sizes, ("pairs", w, ways, ("pairs", "h", kept, over)))
+        context = (("r", alone(2, "s")),)
+        self.assertEqual(len(objects(context, kind, ((2, ()),))), 12)
+        self.assertEqual(sections(context, kind), [])
+        self.assertEqual(len(sections(context, ("either", kind, S(1)))), 1)
+
     def test_more_than_most_over_steps(self):
         self.assertRaises(TooLarge, sections, SIZE, Z(3))
         self.assertRaises(TooLarge, sections, SIZE, Z(4))

@@ -98,6 +98,17 @@ class ContextsTest(unittest.TestCase):
         self.assertEqual(found, sorted(found))
 
 
+    def test_sections_in_large_groups(self):
+        nine = product(*TWOS)
+        # The permutations of three or four points have one map of groups to each arrow that is its own inverse.
+        self.assertEqual(len(sections((("r", alone(3, "z")),), nine)), 512)
+        self.assertEqual(len(sections((("r", alone(4, "z")),), nine)), 512)
+        self.assertRaises(TooLarge, sections, (("r", SQUARE),), nine)
+        self.assertRaises(TooLarge, sections, (("r", nine),), alone(3, "z"))
+        self.assertEqual(len(sections((("r", nine),), alone(2, "z"))), 512)
+        self.assertEqual(len(sections((("r", cycles(3, "n")),), nine)), 512)
+
+
 class ClosedTest(unittest.TestCase):
 
     def assert_equivalent(self, first, second):
