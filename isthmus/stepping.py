@@ -6,7 +6,7 @@ from isthmus.scopes import inverse_path, joined_path, paths_from, place_of, scop
 
 
 class Stepping(Groupoid):
-    """The places and steps of a context, told as callers write them."""
+    """The places and steps of a context, told as callers write them; only entry asks whether a single one is one."""
 
     def __init__(self, world, scope):
         Groupoid.__init__(self, world.most)
@@ -41,10 +41,6 @@ class Stepping(Groupoid):
         """Return the places."""
         return self.rows
 
-    def has(self, thing):
-        """Tell whether it is a place."""
-        return key_of(thing) in self.spots
-
     def fan(self, thing):
         """Return the steps from a place."""
         key = key_of(thing)
@@ -52,10 +48,6 @@ class Stepping(Groupoid):
             paths = paths_from(self.world, self.scope, self.spots[key])
             self.fans[key] = sorted([(place_of(self.scope, path.end), step_of(self.scope, path)) for path in paths])
         return self.fans[key]
-
-    def has_link(self, start, end, arrow):
-        """Tell whether it is a step between two places."""
-        return (end, arrow) in self.fan(start)
 
     def compose(self, start, middle, end, first, second):
         """Return the composite."""

@@ -13,17 +13,17 @@ FIGURES = "0123456789"
 def write(value):
     """Return the text of a word, an integer or a nested tuple of these."""
     pieces = []
-    # What is still to be written, the last one first, each with whether it is a text already.
-    waiting = [(False, value)]
+    # What is still to be written, the last one first; blanks and brackets stand among the values, as words do.
+    waiting = [value]
     while waiting:
-        ready, part = waiting.pop()
-        if ready or isinstance(part, str):
+        part = waiting.pop()
+        if isinstance(part, str):
             pieces.append(part)
         elif isinstance(part, int):
             pieces.append(integer_text(part))
         else:
             pieces.append("(")
-            waiting.append((True, ")"))
+            waiting.append(")")
             waiting.extend(spaced_parts(part))
     return "".join(pieces)
 
@@ -32,9 +32,9 @@ def spaced_parts(parts):
     """Return the parts of a tuple and the blanks between them, the last one first."""
     found = []
     for at in reversed(range(len(parts))):
-        found.append((False, parts[at]))
+        found.append(parts[at])
         if at > 0:
-            found.append((True, " "))
+            found.append(" ")
     return found
 
 
