@@ -5,6 +5,7 @@ import unittest
 
 import plain
 from compare import thinned
+from isthmus.closed import is_equivalence
 from isthmus.contexts import back_step, stay_step
 from isthmus.errors import BadPlace, BadStep
 from isthmus.types import identity, inverse, objects
@@ -89,6 +90,21 @@ class NearTest(unittest.TestCase):
                         for arrow in thinned(rows or [()], 2):
                             self.check(changed(dice, arrow), rows, BadStep,
                                        lambda data: inverse(context, kind, place, thing, other, data))
+
+    def test_maps_keep_composites(self):
+        rest, swap, turn, back = (0, 1, 2), (1, 0, 2), (1, 2, 0), (2, 0, 1)
+        sizes = ("maps", "k", Z(2), Z(3))
+        self.assertEqual(identity(EMPTY, sizes, (), ((0, 0, 3), ((), (), rest, swap))), ((), (), rest))
+        # The exchange done twice is the identity, and a turn done twice is not; so with one arrow beside two.
+        self.assertRaises(BadPlace, identity, EMPTY, sizes, (), ((0, 0, 3), ((), (), rest, turn)))
+        sizes = ("maps", "k", Z(3), Z(3))
+        ahead = ((), (0,), (0, 1), (1, 0))
+        for loops in ((rest, swap, swap, rest, rest, swap), (rest, (0, 2, 1), swap, turn, back, (2, 1, 0))):
+            self.assertEqual(len(identity(EMPTY, sizes, (), ((0, 1, 2, 3), ahead + loops))), 4)
+        for loops in ((rest, swap, (0, 2, 1), rest, rest, swap), (rest, swap, rest, swap, swap, rest),
+                      (rest, turn, swap, turn, back, (2, 1, 0)), (rest, rest, rest, turn, back, rest)):
+            self.assertRaises(BadPlace, identity, EMPTY, sizes, (), ((0, 1, 2, 3), ahead + loops))
+            self.assertIs(is_equivalence(Z(3), Z(3), ((0, 1, 2, 3), ahead + loops)), False)
 
     def test_maps_keep_identities(self):
         turned, still = (1, 0), (0, 1)

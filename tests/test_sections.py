@@ -1,6 +1,7 @@
 """All meanings that a term of a type could have (points 8 and 18)."""
 
 import unittest
+from unittest.mock import patch
 
 import plain
 import plain_closed
@@ -8,11 +9,20 @@ from growing import well_named
 from isthmus.closed import sections
 from isthmus.contexts import MOST
 from isthmus.errors import TooLarge
+from isthmus.loops import LoopSearch
 from isthmus.machine import table
 from isthmus.types import objects
 from samples import BIT, EITHER, MARKED, PAIRED, POINT2, SAMPLES, SIZE2
 from short import CONTEXTS, EMPTY, FAMILY, N, NONE, P, POINT, Q, S, SIZE, TWO, TYPES, WAY, Z, of
 from test_closed import alone, cycles
+
+
+def any_arrow(told, turn, shift):
+    """Some arrow from the image along a loop back to the object; the identity, if both are the same."""
+    if told.images[turn] == told.thing:
+        return told.fibre.identity(told.thing)
+    rows = told.fibre.links(told.images[turn], told.thing)
+    return rows[(turn * turn + shift) % len(rows)]
 
 
 class SectionsTest(unittest.TestCase):
@@ -197,6 +207,44 @@ class ManySectionsTest(unittest.TestCase):
         self.assertEqual(len(sections(*moved(3, alone(3, "t")))), 6 ** 3 // 6 + 6 ** 3 // 2)
         for context, kind in (moved(2, Z(2)), moved(3, Z(1)), moved(2, alone(3, "t"))):
             self.assertEqual(sections(context, kind), plain_closed.meanings(context, kind))
+
+    def test_sections_where_the_loops_move_the_objects(self):
+        def size(m, name, x):
+            return ("first",) + alone(m, x)[1:] + (N(name),)
+
+        def points(m, name, x):
+            return of(m, size(m, name, x))
+
+        two, three = (("r", alone(2, "s")),), (("r", alone(3, "s")),)
+        both = (("a", alone(2, "s")), ("b", alone(2, "s")))
+        pointed = ("pairs", "k", alone(3, "h"), points(3, "k", "h"))
+
+        def coloured(m, n, name):
+            """The maps from m points to the points of a name."""
+            return ("pairs", "m", alone(m, "h"), ("maps", "y", points(m, "m", "h"), points(n, name, "s")))
+
+        ways = ("ways", Z(3), size(3, "m", "h"), size(3, "r", "s"))
+        told = ("pairs", "m", alone(3, "h"), ("pairs", "f", ways, ("maps", "y", points(3, "m", "h"), alone(2, "g"))))
+        rows = [
+            # One class of objects, with 36 choices of an object and an arrow to it, by 3 arrows; likewise 9 * 4 by 2.
+            (two, ("maps", "y", points(2, "r", "s"), cycles(3, "n")), 12), (two, ("maps", "y", points(2, "r", "s"), pointed), 18),
+            # Half of the four points have each colour: the exchange may take two to two as it likes, forth and back.
+            (two, coloured(4, 2, "r"), 6 * 2), (three, coloured(3, 3, "r"), 6),
+            (three, ("pairs", "z", coloured(3, 3, "r"), alone(2, "g")), 6 * 2), (three, told, 6 * 8),
+            # The ten maps of groups from the permutations of three points to themselves.
+            (three, ("pairs", "m", alone(3, "h"), ("pairs", "f", ways, alone(3, "g"))), 6 * 10),
+            (both, coloured(4, 2, "a"), 24), (both, coloured(4, 2, "b"), 24), (both, ("maps", "y", points(2, "a", "s"), cycles(3, "n")), 12),
+            (both, ("maps", "y", points(2, "b", "s"), pointed), 36), (three, pointed, 6), (three, cycles(4, "n"), 12),
+        ]
+        for context, kind, many in rows:
+            with self.subTest(context=context, kind=kind):
+                found = sections(context, kind)
+                self.assertEqual(len(found), many)
+                self.assertEqual(found, plain_closed.meanings(context, kind))
+                # The arrows that the search fixes may be any others, as long as they lead back to the object.
+                for shift in (1, 2, 5):
+                    with patch.object(LoopSearch, "fixed_arrow", lambda search, turn: any_arrow(search.told, turn, shift)):
+                        self.assertEqual(sections(context, kind), found)
 
     def test_none_though_each_object_is_kept(self):
         # Turns of four points, and maps f from these to the points of r that no turn keeps: the exchange of the points
