@@ -84,6 +84,8 @@ PAIRS = [
      ("at", "k", S(2), ("first", "k", S(2), Z(2), N("r")), Z(2))),
 ]
 
+FIRST_PART, SECOND_PART = [(word,) + POINTED[1:] + (N("r"),) for word in ("first", "second")]
+
 MAPS = [
     (SIZE2, ("fun", "q", of(2, N("n")), of(2, N("n")), N("q")), ("maps", "q", of(2, N("n")), of(2, N("n")))),
     (SIZE2, ("fun", "q", of(2, N("n")), Z(2), N("n")), ("maps", "q", of(2, N("n")), Z(2))),
@@ -98,6 +100,10 @@ MAPS = [
      ("at", "x", Z(2), N("n"), ("ways", Z(2), N("x"), N("x")))),
     (TWO, ("app", "x", Z(2), Z(2), ("fun", "x", Z(2), Z(2), N("m")), N("n")), ("at", "x", Z(2), N("n"), Z(2))),
     (SIZE2, ("open", "n", Z(2), Z(2), ("fun", "n", Z(2), Z(2), N("n"))), Z(2)),
+    (PAIRED, ("open", "r", POINTED, of(2, FIRST_PART), ("fun", "r", POINTED, of(2, FIRST_PART), SECOND_PART)), of(2, FIRST_PART)),
+    (PAIRED, ("open", "r", POINTED, Z(2), ("fun", "r", POINTED, Z(2), FIRST_PART)), Z(2)),
+    (POINT2, ("open", "p", of(2, N("n")), of(2, N("n")), ("fun", "p", of(2, N("n")), of(2, N("n")), N("p"))), of(2, N("n"))),
+    (POINT2, ("open", "p", of(2, N("n")), Z(2), ("fun", "p", of(2, N("n")), Z(2), N("n"))), Z(2)),
     (TWO, ("open", "m", Z(2), ("maps", "k", of(2, N("m")), Z(2)),
            ("fun", "m", Z(2), ("maps", "k", of(2, N("m")), Z(2)), ("fun", "k", of(2, N("m")), Z(2), N("n")))),
      ("maps", "k", of(2, N("m")), Z(2))),

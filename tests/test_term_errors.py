@@ -2,8 +2,13 @@
 
 import unittest
 
+import plain
+from growing import part_at, parts_of, well_named, with_part
 from isthmus.closed import classes, equivalence, is_equivalence, mass, sections, way
-from isthmus.errors import (BadForm, BadName, BadPlace, BadStep, NotExchange, NotFlat, NotOnly, NotSmall, WrongType)
+from isthmus.contexts import places
+from isthmus.errors import (BadForm, BadName, BadPlace, BadStep, IsthmusError, NotExchange, NotFlat, NotOnly, NotSmall,
+                            WrongType)
+from isthmus.forms import KINDS, TERMS, part_codes
 from isthmus.machine import along, table, value
 from isthmus.terms import equal_terms, type_of
 from samples import ALONE, BIT, EITHER, FAMILY, FOUND, PAIR, PAIRED, POINT2, POINTED, SAMPLES, SIZE2, TURN
@@ -162,6 +167,50 @@ class PartsTest(TermErrorsTest):
             self.assert_error(WrongType, context, term)
             self.assert_error(WrongType, context, ("given", "h", S(1), P(1, 0), term))
             self.assert_error(WrongType, context, ("left", S(1), ("pairs", "h", S(1), ("classes", ("ways", S(1), P(1, 0), term))), P(1, 0)))
+
+    def test_each_part_of_each_form(self):
+        """A term of no fitting type in the place of each term that a form takes."""
+        odd = ("right", S(4), ("either", S(3), S(4)), ("left", S(3), S(4), P(3, 2)))
+        done = {}
+        for context, term, _ in SAMPLES:
+            if not places(context):
+                continue
+            for at, code in enumerate(part_codes(term[0]), 1):
+                if code == "T*":
+                    for k in range(len(term[at])):
+                        branches = term[at][:k] + (odd,) + term[at][k + 1:]
+                        self.assert_error(WrongType, context, term[:at] + (branches,) + term[at + 1:])
+                elif code[0] == "T" and (term[0], code) != ("given", "Tx"):
+                    self.assert_error(WrongType, context, term[:at] + (odd,) + term[at + 1:])
+                    done[(term[0], at)] = True
+        every = {(word, at) for word, codes in TERMS.items() for at, code in enumerate(codes, 1) if code[0] == "T" and code != "T*"}
+        self.assertEqual(set(done), every - {("given", 4)})
+
+    def test_each_part_against_the_slow_reading(self):
+        """Other types and terms in the place of each part at any depth: the error that is due, or none."""
+        others = [P(2, 1), Q(2, 1), ("left", S(3), S(4), P(3, 2)), S(2), Z(2), ("pairs", "u", S(2), Z(1))]
+        found, errors = 0, {}
+        for context, term, _ in SAMPLES:
+            for path in parts_of(term):
+                for other in others:
+                    changed = with_part(term, path, other)
+                    if (part_at(term, path)[0] in KINDS) != (other[0] in KINDS) or not well_named(changed, context):
+                        continue
+                    try:
+                        wanted = plain.type_of(context, changed)
+                    except plain.Wrong as error:
+                        wanted = error.args[0]
+                    except plain.Skip:
+                        continue
+                    try:
+                        given = type_of(context, changed)
+                    except IsthmusError as error:
+                        given = type(error).__name__
+                    self.assertEqual(given, wanted, (context, changed))
+                    found += isinstance(wanted, tuple)
+                    errors[str(wanted)] = True
+        self.assertGreater(found, 300)
+        self.assertLessEqual({"WrongType", "NotFlat", "NotSmall", "NotOnly"}, set(errors))
 
     def test_no_part_is_wrong_without_places(self):
         for context, term in self.wrong:
