@@ -69,9 +69,9 @@ class LoopSearch:
         self.block = told.block
         fibre, thing = told.fibre, told.thing
         self.around = Loops(fibre, thing, fibre.links(thing, thing))
-        self.rows = self.around.table()
         self.rest = self.around.rest_turn()
-        self.inverses = [row.index(self.rest) for row in self.rows]
+        self.rows = []
+        self.inverses = []
         self.fixed = {turn: self.fixed_arrow(turn) for turn in told.images}
         self.words = {}
         for _, triples in self.block.levels():
@@ -189,8 +189,10 @@ class LoopSearch:
 
     def run(self):
         """Return the lists of the numbers along all loops; one more than most of them are enough."""
-        if len(self.rows) == 1:
+        if len(self.block.loops) == 1 or len(self.around.loops) == 1:
             return [[self.rest] * len(self.block.loops)]
+        self.rows = self.around.table()
+        self.inverses = [row.index(self.rest) for row in self.rows]
         self.descend(self.block.levels(), {self.block.rest_turn(): self.rest})
         return self.found
 

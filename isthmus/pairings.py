@@ -26,11 +26,12 @@ class Pairs(Groupoid):
         return self.rows
 
     def samples(self):
-        """Return some of the objects."""
-        rows = []
+        """Return some of the objects: those over the first object that has some."""
         for thing in self.base.objects_here():
-            rows.extend([(thing, other) for other in self.family.over(thing).samples()])
-        return rows
+            rows = [(thing, other) for other in self.family.over(thing).samples()]
+            if rows:
+                return rows
+        return []
 
     def has(self, thing):
         """Tell whether it is an object."""

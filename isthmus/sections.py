@@ -9,6 +9,9 @@ from isthmus.errors import TooLarge
 from isthmus.loops import LoopImages, LoopSearch
 from isthmus.paths import key_of
 
+# Samples are taken from so many objects, and so many of what there is over each of them.
+MOST_SAMPLES = 8
+
 
 def choices(rows):
     """Return all tuples with one item of each row, in order."""
@@ -43,9 +46,9 @@ class BlockChoice:
             self.tips = [trunk_fan(maps, block, at, thing) for at in block.members]
         self.many = len(self.numbers) * product_of([len(tips) for tips in self.tips])
 
-    def loop_rows(self):
-        """Return the lists of the arrows along all loops."""
-        return [[self.search.arrow(turn, number) for turn, number in enumerate(row)] for row in self.numbers]
+    def loop_rows(self, many):
+        """Return the lists of the arrows along all loops; of long lists of lists only so many."""
+        return [[self.search.arrow(turn, number) for turn, number in enumerate(row)] for row in self.numbers[:many]]
 
 
 def trunk_fan(maps, block, at, thing):
@@ -102,12 +105,13 @@ def sample_sections(maps):
 def block_samples(maps, block):
     """Return functors on one block that differ in their loops or in one tip of the trunk from a first one."""
     found = []
-    for choice in block_choices(maps, block, maps.most):
+    for thing in maps.fibres[block.root].objects_here()[:MOST_SAMPLES]:
+        choice = BlockChoice(maps, block, thing)
         tips = [row[0] for row in choice.tips]
-        rows = choice.loop_rows()
+        rows = choice.loop_rows(MOST_SAMPLES)
         found.extend([complete(maps, block, choice.images, loops, tips) for loops in rows])
         for at, row in enumerate(choice.tips):
-            for tip in row[1:]:
+            for tip in row[1:MOST_SAMPLES]:
                 others = tips[:at] + [tip] + tips[at + 1:]
                 found.append(complete(maps, block, choice.images, rows[0], others))
     return found
@@ -117,7 +121,7 @@ def block_sections(maps, block, row):
     """Return the functors on one block, as pairs of dicts (objects by position, arrows by position)."""
     found = []
     for choice in row:
-        for loops in choice.loop_rows():
+        for loops in choice.loop_rows(choice.many):
             for tips in choices(choice.tips):
                 found.append(complete(maps, block, choice.images, loops, tips))
     return found
