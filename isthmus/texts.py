@@ -5,8 +5,9 @@ Integers go through rows of figures of a bounded length, since Python refuses to
 
 from isthmus.errors import BadText
 
-ROW = 60
-ROW_LIMIT = 10 ** 60
+# Integers below the limit have at most so many figures as a row.
+ROW = 18
+ROW_LIMIT = 1000000000000000000
 FIGURES = "0123456789"
 
 

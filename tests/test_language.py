@@ -14,7 +14,7 @@ TREES = {path: ast.parse(path.read_text()) for path in FILES if path.suffix == "
 NODES = {"Module", "Expr", "Constant", "ImportFrom", "alias", "ClassDef", "FunctionDef", "Lambda", "arguments", "arg",
          "Assign", "AugAssign", "Return", "If", "IfExp", "While", "For", "Continue", "Break", "Pass", "Raise", "Call",
          "Name", "Load", "Store", "Attribute", "Subscript", "Slice", "Tuple", "List", "Dict", "ListComp", "DictComp",
-         "comprehension", "BinOp", "Add", "Sub", "Mult", "FloorDiv", "Pow", "UnaryOp", "USub", "Not", "BoolOp", "And",
+         "comprehension", "BinOp", "Add", "Sub", "Mult", "FloorDiv", "UnaryOp", "USub", "Not", "BoolOp", "And",
          "Or", "Compare", "Try", "ExceptHandler", "Eq", "NotEq", "Lt", "LtE", "Gt", "GtE", "In", "NotIn", "Is", "IsNot",
          "JoinedStr", "FormattedValue"}
 LIBRARY = {"itertools": ["permutations"], "math": ["gcd"]}
