@@ -107,13 +107,14 @@ def block_samples(maps, block):
     found = []
     for thing in maps.fibres[block.root].objects_here()[:MOST_SAMPLES]:
         choice = BlockChoice(maps, block, thing)
+        completion = Completion(maps, block, choice.images)
         tips = [row[0] for row in choice.tips]
         rows = choice.loop_rows(MOST_SAMPLES)
-        found.extend([complete(maps, block, choice.images, loops, tips) for loops in rows])
+        found.extend([completion.functor(loops, tips) for loops in rows])
         for at, row in enumerate(choice.tips):
             for tip in row[1:MOST_SAMPLES]:
                 others = tips[:at] + [tip] + tips[at + 1:]
-                found.append(complete(maps, block, choice.images, rows[0], others))
+                found.append(completion.functor(rows[0], others))
     return found
 
 
@@ -121,38 +122,75 @@ def block_sections(maps, block, row):
     """Return the functors on one block, as pairs of dicts (objects by position, arrows by position)."""
     found = []
     for choice in row:
+        completion = Completion(maps, block, choice.images)
         for loops in choice.loop_rows(choice.many):
-            for tips in choices(choice.tips):
-                found.append(complete(maps, block, choice.images, loops, tips))
+            found.extend([completion.functor(loops, tips) for tips in choices(choice.tips)])
     return found
 
 
-def complete(maps, block, images, loops, tips):
-    """Return the functor on a block with these arrows along loops and these tips of the trunk.
+class Completion:
+    """Makes functors on a block out of arrows along loops and tips of the trunk.
 
-    images are what all loops make of the object at the root.
+    images are what all loops make of the object at the root. Many functors share parts; these are worked out once.
     """
-    ends = dict(zip(block.members, tips))
-    thing = images[block.rest_turn()]
-    arrows = {}
-    for position, source, target, turn in block.twists():
-        if source == target == block.root:
-            arrows[position] = loops[turn]
-            continue
-        fibre = maps.fibres[target]
-        end, tip = ends[target]
-        trunk = maps.trunk_shift(block, target)
-        far = trunk.image(images[turn])
-        near = trunk.image(thing)
-        out = fibre.compose(far, near, end, trunk.image_link(images[turn], thing, loops[turn]), tip)
-        if source != block.root:
-            shift = maps.shifts[position]
-            other, back = ends[source]
-            before = maps.trunk_shift(block, source).image(thing)
-            home = fibre.inverse(far, shift.image(other), shift.image_link(before, other, back))
-            out = fibre.compose(shift.image(other), far, end, home, out)
-        arrows[position] = out
-    return ({at: ends[at][0] for at in ends}, arrows)
+
+    def __init__(self, maps, block, images):
+        self.maps = maps
+        self.block = block
+        self.images = images
+        self.thing = images[block.rest_turn()]
+        self.fars = {}
+        self.heads = {}
+        self.homes = {}
+
+    def functor(self, loops, tips):
+        """Return the functor with these arrows along all loops and these tips, as dicts by position."""
+        block = self.block
+        ends = dict(zip(block.members, tips))
+        loop_keys = [key_of(loop) for loop in loops]
+        tip_keys = {at: key_of(ends[at]) for at in ends}
+        arrows = {}
+        for position, source, target, turn in block.twists():
+            if source == target == block.root:
+                arrows[position] = loops[turn]
+                continue
+            key = (target, tip_keys[target], turn, loop_keys[turn])
+            if key not in self.heads:
+                self.heads[key] = self.head(target, turn, loops[turn], ends[target])
+            arrow = self.heads[key]
+            if source != block.root:
+                key = (position, tip_keys[source])
+                if key not in self.homes:
+                    self.homes[key] = self.home(position, source, target, turn, ends[source])
+                start, back = self.homes[key]
+                far = self.far(target, turn)
+                arrow = self.maps.fibres[target].compose(start, far, ends[target][0], back, arrow)
+            arrows[position] = arrow
+        return ({at: ends[at][0] for at in ends}, arrows)
+
+    def far(self, target, turn):
+        """Return what the loop, and then the trunk to an object, make of the object at the root."""
+        key = (target, turn)
+        if key not in self.fars:
+            self.fars[key] = self.maps.trunk_shift(self.block, target).image(self.images[turn])
+        return self.fars[key]
+
+    def head(self, target, turn, loop, tip):
+        """Return the arrow along the loop and then the trunk to an object."""
+        trunk = self.maps.trunk_shift(self.block, target)
+        moved = trunk.image_link(self.images[turn], self.thing, loop)
+        return self.maps.fibres[target].compose(self.far(target, turn), trunk.image(self.thing), tip[0], moved, tip[1])
+
+    def home(self, position, source, target, turn, tip):
+        """Return where an arrow between two objects takes the end of the trunk to its source, and the way back.
+
+        This way leads to where the loop and the trunk to the target take the object at the root.
+        """
+        shift = self.maps.shifts[position]
+        before = self.maps.trunk_shift(self.block, source).image(self.thing)
+        start = shift.image(tip[0])
+        arrow = shift.image_link(before, tip[0], tip[1])
+        return (start, self.maps.fibres[target].inverse(self.far(target, turn), start, arrow))
 
 
 def is_section(maps, block, values, arrows):
@@ -173,7 +211,7 @@ def is_section(maps, block, values, arrows):
     if tips is None:
         return False
     loops = [known[turn] for turn in range(len(block.loops))]
-    made = complete(maps, block, told.images, loops, tips)[1]
+    made = Completion(maps, block, told.images).functor(loops, tips)[1]
     return all([arrows[position] == made[position] for position in made])
 
 
