@@ -81,6 +81,7 @@ class LoopSearch:
         self.extras = {}
         self.possibles = {}
         self.found = []
+        self.many = 0
 
     def fixed_arrow(self, turn):
         """Return the arrow that is fixed from the image along a loop to the object."""
@@ -188,26 +189,59 @@ class LoopSearch:
         return reached == self.rest
 
     def run(self):
-        """Return the lists of the numbers along all loops; one more than most of them are enough."""
-        if len(self.block.loops) == 1 or len(self.around.loops) == 1:
-            return [[self.rest] * len(self.block.loops)]
+        """Find the ways; one more than most of them are enough."""
+        everyone = list(range(len(self.around.loops)))
+        if len(self.block.loops) == 1 or len(everyone) == 1:
+            self.note([self.rest] * len(self.block.loops), everyone)
+            return
         self.rows = self.around.table()
         self.inverses = [row.index(self.rest) for row in self.rows]
-        self.descend(self.block.levels(), {self.block.rest_turn(): self.rest})
-        return self.found
+        self.descend(self.block.levels(), {self.block.rest_turn(): self.rest}, everyone)
 
-    def descend(self, levels, known):
-        """Choose the numbers along the generating loops of the levels."""
+    def note(self, numbers, keepers):
+        """Note a way, which stands for all that it is moved to; keepers are the arrows that do not move it."""
+        self.found.append((numbers, keepers))
+        self.many += len(self.around.loops) // len(keepers)
+
+    def moved(self, turn, number, mover):
+        """Return the number along a loop in a way that is moved by an arrow from the object to itself.
+
+        The way then has this arrow behind each of its arrows, and ahead of it the inverse of what the loop makes of it.
+        """
+        return self.rows[mover][self.rows[number][self.inverses[self.turned(turn)[mover]]]]
+
+    def descend(self, levels, known, keepers):
+        """Choose the numbers along the generating loops of the levels; keepers are what does not move the known ones.
+
+        Of numbers that keepers move to each other one is enough: ways with another one are ways with this one, moved.
+        """
         if not levels:
-            self.found.append([known[turn] for turn in range(len(self.block.loops))])
+            self.note([known[turn] for turn in range(len(self.block.loops))], keepers)
             return
         turn, triples = levels[0]
+        reached = {}
         for number in self.candidates(turn, known):
-            longer = self.follow(known, turn, triples, number)
-            if longer is not None:
-                self.descend(levels[1:], longer)
-            if len(self.found) > self.told.maps.most:
+            if number not in reached:
+                images = [self.moved(turn, number, keeper) for keeper in keepers]
+                reached.update({image: True for image in images})
+                longer = self.follow(known, turn, triples, number)
+                if longer is not None:
+                    fewer = [keeper for keeper, image in zip(keepers, images) if image == number]
+                    self.descend(levels[1:], longer, fewer)
+            if self.many > self.told.maps.most:
                 return
+
+    def all_ways(self):
+        """Return the lists of the numbers along all loops, for all ways."""
+        ways = []
+        for numbers, keepers in self.found:
+            ways.append(numbers)
+            passed = {keeper: True for keeper in keepers}
+            for mover in range(len(self.around.loops)):
+                if mover not in passed:
+                    ways.append([self.moved(turn, number, mover) for turn, number in enumerate(numbers)])
+                    passed.update({self.rows[mover][keeper]: True for keeper in keepers})
+        return ways
 
     def candidates(self, turn, known):
         """Return the numbers along a loop that make possible ones of its composites with known loops."""

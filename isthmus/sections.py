@@ -36,19 +36,29 @@ class BlockChoice:
         told = LoopImages(maps, block, thing)
         self.images = told.images
         self.search = None
-        self.numbers = []
         self.tips = []
+        self.many = 0
         if told.is_reached():
             told.spread_images()
             self.search = LoopSearch(told)
-            self.numbers = self.search.run()
-        if self.numbers:
-            self.tips = [trunk_fan(maps, block, at, thing) for at in block.members]
-        self.many = len(self.numbers) * product_of([len(tips) for tips in self.tips])
+            self.search.run()
+            if self.search.many > 0:
+                self.tips = [trunk_fan(maps, block, at, thing) for at in block.members]
+                self.many = self.search.many * product_of([len(tips) for tips in self.tips])
 
-    def loop_rows(self, many):
-        """Return the lists of the arrows along all loops; of long lists of lists only so many."""
-        return [[self.search.arrow(turn, number) for turn, number in enumerate(row)] for row in self.numbers[:many]]
+    def loop_rows(self):
+        """Return the lists of the arrows along all loops."""
+        return [self.arrows(row) for row in self.search.all_ways()]
+
+    def some_loop_rows(self):
+        """Return some of these lists."""
+        if self.search is None:
+            return []
+        return [self.arrows(row) for row, _ in self.search.found[:MOST_SAMPLES]]
+
+    def arrows(self, numbers):
+        """Return the arrows along all loops that have these numbers."""
+        return [self.search.arrow(turn, number) for turn, number in enumerate(numbers)]
 
 
 def trunk_fan(maps, block, at, thing):
@@ -109,7 +119,7 @@ def block_samples(maps, block):
         choice = BlockChoice(maps, block, thing)
         completion = Completion(maps, block, choice.images)
         tips = [row[0] for row in choice.tips]
-        rows = choice.loop_rows(MOST_SAMPLES)
+        rows = choice.some_loop_rows()
         found.extend([completion.functor(loops, tips) for loops in rows])
         for at, row in enumerate(choice.tips):
             for tip in row[1:MOST_SAMPLES]:
@@ -123,7 +133,7 @@ def block_sections(maps, block, row):
     found = []
     for choice in row:
         completion = Completion(maps, block, choice.images)
-        for loops in choice.loop_rows(choice.many):
+        for loops in choice.loop_rows():
             found.extend([completion.functor(loops, tips) for tips in choices(choice.tips)])
     return found
 
