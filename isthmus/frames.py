@@ -7,6 +7,9 @@ others, and the loops are the arrows from the root to itself. Trunk and loops ma
 from isthmus.errors import TooLarge
 from isthmus.paths import key_of
 
+# So many loops are tried where one is looked for that makes up much.
+MOST_TRIED = 24
+
 
 class Frame:
     """The objects (rows) and arrows (lines: source, target, arrow) of a groupoid, both ascending."""
@@ -80,7 +83,7 @@ class Loops:
     def table(self):
         """Return all composites: the row v has v * w at w (first w, then v)."""
         if self.found_table is None:
-            self.found_table = find_table(self)
+            self.found_table = find_table(self, self.levels())
         return self.found_table
 
 
@@ -120,8 +123,36 @@ def find_blocks(frame):
     return blocks
 
 
+class Rows:
+    """The composites of loops, read off their table."""
+
+    def __init__(self, rows):
+        self.rows = rows
+
+    def product(self, first, second):
+        """Return the position of the composite of two loops, first and then second."""
+        return self.rows[second][first]
+
+
 def find_levels(block):
-    """Return the levels of loops: each new generating loop at least doubles what is made up."""
+    """Return the levels of loops: if the first ones are many, by fewer loops that make up more each."""
+    levels = first_levels(block)
+    if len(levels) < 3:
+        return levels
+    rows = Rows(find_table(block, levels))
+    rest = block.rest_turn()
+    known = {rest: True}
+    order = [rest]
+    chosen = []
+    found = []
+    while len(order) < len(block.loops):
+        chosen.append(widest(rows, known, order, chosen))
+        found.append((chosen[-1], spread(rows, known, order, chosen)))
+    return found
+
+
+def first_levels(block):
+    """Return levels by the first loops that add anything: each of them at least doubles what is made up."""
     rest = block.rest_turn()
     known = {rest: True}
     order = [rest]
@@ -132,6 +163,20 @@ def find_levels(block):
             chosen.append(turn)
             levels.append((turn, spread(block, known, order, chosen)))
     return levels
+
+
+def widest(rows, known, order, chosen):
+    """Return a loop that adds most to what the chosen ones make up; where there are many, only some are tried."""
+    left = [turn for turn in range(len(rows.rows)) if turn not in known]
+    best = 0
+    most = 0
+    for turn in left[::1 + len(left) // MOST_TRIED]:
+        longer = list(order)
+        spread(rows, dict(known), longer, chosen + [turn])
+        if len(longer) > most:
+            best = turn
+            most = len(longer)
+    return best
 
 
 def spread(block, known, order, chosen):
@@ -151,10 +196,10 @@ def spread(block, known, order, chosen):
     return triples
 
 
-def find_table(block):
+def find_table(block, levels):
     """Return the table of loops, worked out from the composites with generating loops behind."""
     many = len(block.loops)
-    triples = [triple for _, row in block.levels() for triple in row]
+    triples = [triple for _, row in levels for triple in row]
     behind = {}
     for later, earlier, made in triples:
         behind.setdefault(later, [0] * many)[earlier] = made
